@@ -333,10 +333,16 @@ class Look:
                 self.tell(name, node, "L25", f"the method {attr}")
             if attr in METHODS and node.keywords:
                 self.tell(name, node, "L25", f"keywords of {attr}")
-            for part in node.args:
-                if isinstance(part, ast.Starred) and not isinstance(part.value, (ast.Name, ast.Attribute, ast.Constant)):
-                    self.tell(name, node, "L7", "a star in a call")
+            self.look_stars(name, node)
             self.look_many(name, node, word)
+
+    def look_stars(self, name, node):
+        stars = [at for at, part in enumerate(node.args) if isinstance(part, ast.Starred)]
+        if stars:
+            behind = [*node.args[stars[0]:], *[key.value for key in node.keywords]]
+            for part in [part.value if isinstance(part, ast.Starred) else part for part in behind]:
+                if not isinstance(part, (ast.Name, ast.Attribute, ast.Constant)):
+                    self.tell(name, node, "L7", "a star in a call")
 
     def look_many(self, name, node, word):
         told = self.functions.get(word, [])

@@ -48,7 +48,7 @@ class ExamplesTest(unittest.TestCase):
         for block in blocks:
             for line, wanted in pairs_of(block):
                 with self.subTest(line=line):
-                    self.assertEqual(done(line, names), wanted)
+                    self.assertEqual(done(line, names), wanted if wanted is None else wanted.removesuffix("()"))
         self.assertGreater(len(blocks), 2)
 
     @unittest.skipUnless(os.path.exists(DOCUMENT), "the document is not beside this project")

@@ -25,6 +25,18 @@ INTERFACE = {
     "longest.py": {"Longest": ["__init__", "__eq__"], "longest_frames": None, "longest_letter": None, "most_cells": None,
                    "longest_paper": None},
     "look_longest.py": {"shows_longest": None},
+    "cells.py": dict.fromkeys("cells_of frame_of".split()),
+    "losses.py": {"LossRule": "__eq__ is_calm lets __and__ __or__ within __str__ read".split(), "MachineRule": ["__init__"],
+                  "Total": ["__init__"], "Burst": ["__init__"]},
+    "plans.py": {"Phase": ["__init__", "__eq__"],
+                 "Plan": "__init__ __len__ __iter__ __getitem__ __eq__ plain copies groups __str__ read".split()},
+    "spaces.py": {"Space": "__init__ __eq__ heard knows opened picked".split()},
+    "repair.py": {"Closed": "__init__ __bool__ __eq__".split(), "Never": "__init__ __bool__ __eq__".split(),
+                  "Worst": ["__init__", "__eq__"], "known_at": None, "repaired": None, "phase_delays": None,
+                  "worst_losses": None, "slots_needed": None},
+    "look_repair.py": dict.fromkeys("shows_repaired shows_worst".split()),
+    "rounds.py": {"Round": """__init__ __len__ __iter__ __contains__ __getitem__ __call__ own flow_names __add__ __mul__
+        __rmul__ __lshift__ with_slot __eq__ is_like __str__ read""".split()},
 }
 
 # A line that breaks a rule, and the rule: the test of the form itself.
