@@ -69,22 +69,11 @@ def is_closed(course, delays, table):
     return all([after in told for row in table for after in rows_ahead(course, row)])
 
 
-def standing_behind(course, begin, slots):
-    """The standing behind slots from a phase on, None if they are not let."""
-    standing = (begin, 0, ())
+def behind_slots(course, begin, slots, is_trail):
+    """The standing, or the trail, behind slots from one on; None if they are not let, or the row is known."""
+    here = begin
     for slot in slots:
-        after = [behind for told, behind in course.next_standings(standing) if told == slot]
-        if not after:
-            return None
-        standing = after[0]
-    return standing
-
-
-def trail_along(course, trail, slots):
-    """The trail behind slots from a trail on, None if they are not let, or the row is known."""
-    here = trail
-    for slot in slots:
-        after = [behind for told, behind in course.next_trails(here) if told == slot]
+        after = [behind for told, behind in course.onward(here, is_trail) if told == slot]
         if not after:
             return None
         here = after[0]
@@ -93,13 +82,13 @@ def trail_along(course, trail, slots):
 
 def trail_behind_all(course, begin, before, losses):
     """The trail behind losses that begin with the slot of its row, None if they are not let, or the row is known."""
-    standing = standing_behind(course, begin, before)
+    standing = behind_slots(course, (begin, 0, ()), before, False)
     if standing is None or losses[:1] != "x":
         return None
     trail = course.first_trail(standing)
     if trail is None:
         return None
-    return trail_along(course, trail, losses[1:])
+    return behind_slots(course, trail, losses[1:], True)
 
 
 def is_never(course, value):
@@ -109,7 +98,7 @@ def is_never(course, value):
     if not is_slots(value.before) or not is_slots(value.lost) or not is_slots(value.again) or value.again == "":
         return False
     trail = trail_behind_all(course, value.begin, value.before, value.lost)
-    return trail is not None and trail_along(course, trail, value.again) == trail
+    return trail is not None and behind_slots(course, trail, value.again, True) == trail
 
 
 def shows_repaired(plan, rule, value):
@@ -133,7 +122,7 @@ def shows_worst(plan, rule, phase, many, value):
         return False
     if not is_slots(value.before) or not is_slots(value.losses) or len(value.losses) != many:
         return False
-    standing = standing_behind(course, value.begin, value.before)
+    standing = behind_slots(course, (value.begin, 0, ()), value.before, False)
     if standing is None or standing[0] != phase:
         return False
     return many == 0 or trail_behind_all(course, value.begin, value.before, value.losses) is not None

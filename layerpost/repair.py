@@ -6,7 +6,7 @@ from layerpost.growths import Growth
 from layerpost.losses import LossRule
 from layerpost.machines import is_losses
 from layerpost.plans import Plan
-from layerpost.standings import Course, all_standings, all_trails, endless_trails, first_trails, ring_of, way_to
+from layerpost.standings import Course, all_behind, all_standings, endless_trails, first_trails, ring_of, way_to
 from layerpost.vectors import heard_vectors
 from layerpost.verdicts import Verdict
 
@@ -65,15 +65,22 @@ def check_line(plan, rule):
         raise BadRule("rule")
 
 
+def masks_at(phase, at):
+    """What the kept slot with an index tells, as masks, the bit n being the row of the slot n.
+
+    Rows ahead of the first slot are known, so they take no part in a sum.
+    """
+    masks = [sum([1 << (at - age) for age in ages if age <= at]) for ages in phase.sums]
+    return masks if phase.mute else [1 << at, *masks]
+
+
 def vectors_behind(vectors, phase, at, is_kept):
-    """The differences of all rows so far behind the slot at an index, the bit n being the row of the slot n."""
+    """The differences of all rows so far behind the slot with an index."""
     behind = list(vectors)
     if not phase.mute:
         behind.append(1 << at)
     if is_kept:
-        # Rows ahead of the first slot are known, so they take no part in a sum.
-        masks = [sum([1 << at - age for age in ages if age <= at]) for ages in phase.sums]
-        for mask in masks if phase.mute else [1 << at, *masks]:
+        for mask in masks_at(phase, at):
             behind = heard_vectors(behind, mask)
     return behind
 
@@ -98,7 +105,7 @@ def known_at(plan, begin, losses):
         for vector in vectors:
             differing = differing | vector
         for row in unknown:
-            if differing >> row & 1 == 0:
+            if (differing >> row) & 1 == 0:
                 known[row] = at
         unknown = [row for row in unknown if known[row] is None]
     return tuple(known)
@@ -146,7 +153,7 @@ def looked_through(plan, rule):
     course = Course(plan, rule)
     standings = all_standings(course)
     first = first_trails(course, standings)
-    trails = all_trails(course, first)
+    trails = all_behind(course, list(first), True)
     endless = endless_trails(course, trails)
     if endless:
         return never_of(course, standings, first, trails, endless), course, standings

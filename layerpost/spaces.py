@@ -44,7 +44,7 @@ class Space:
     def knows(self, place):
         """Whether no vector has this bit."""
         check_place(self.width, place)
-        return not any([vector >> place & 1 for vector in self.basis])
+        return not any([(vector >> place) & 1 for vector in self.basis])
 
     def opened(self, free):
         """The space with all bits one place up; the bit 0 is 0, or 1 too if free is True."""

@@ -12,6 +12,12 @@ WINDOW = 15
 TRAILED = 16
 
 
+def masks_of(phase):
+    """What a kept slot tells, as masks: its own row, the bit 0, unless it is mute, and its sums, an age being a bit."""
+    masks = [sum([1 << age for age in ages]) for ages in phase.sums]
+    return masks if phase.mute else [1, *masks]
+
+
 class Course:
     """How standings and trails of a plan go on under a loss rule.
 
@@ -21,6 +27,7 @@ class Course:
 
     def __init__(self, plan, rule):
         self.phases = plan.phases
+        self.masks = [masks_of(phase) for phase in plan.phases]
         self.leads = rule.places
         self.short = {}
         self.long = {}
@@ -38,13 +45,11 @@ class Course:
 
     def behind(self, phase, basis, slot):
         """The vectors behind a slot, one place up, the bit 0 being the row of the slot."""
-        told = self.phases[phase]
         vectors = [vector << 1 for vector in basis]
-        if not told.mute:
+        if not self.is_mute(phase):
             vectors.append(1)
         if slot == ".":
-            masks = [sum([1 << age for age in ages]) for ages in told.sums]
-            for mask in masks if told.mute else [1, *masks]:
+            for mask in self.masks[phase]:
                 vectors = heard_vectors(vectors, mask)
         return vectors
 
@@ -61,7 +66,7 @@ class Course:
         if key not in self.long:
             vectors = self.behind(phase, basis, slot)
             # The slot has moved the row that is trailed one place up, as all others.
-            self.long[key] = basis_of([vector & WINDOW | vector >> 1 & TRAILED for vector in vectors])
+            self.long[key] = basis_of([(vector & WINDOW) | ((vector >> 1) & TRAILED) for vector in vectors])
         return self.long[key]
 
     def next_phase(self, phase):
@@ -81,6 +86,10 @@ class Course:
         trails = [(slot, (after, lead, self.trail_behind(phase, basis, slot))) for slot, lead in self.let_slots(place)]
         return [(slot, row) for slot, row in trails if is_open(row)]
 
+    def onward(self, here, is_trail):
+        """The next trails of a trail, or the next standings of a standing."""
+        return self.next_trails(here) if is_trail else self.next_standings(here)
+
     def first_trail(self, standing):
         """The trail of the row of the next slot, which is lost; None if it is mute, or may not be lost."""
         phase, place, basis = standing
@@ -88,7 +97,7 @@ class Course:
         if lead is None or self.is_mute(phase):
             return None
         vectors = self.behind(phase, basis, "x")
-        trailed = basis_of([vector & WINDOW | (vector & 1) * TRAILED for vector in vectors])
+        trailed = basis_of([(vector & WINDOW) | ((vector & 1) * TRAILED) for vector in vectors])
         return self.next_phase(phase), lead, trailed
 
 
@@ -97,19 +106,27 @@ def is_open(trail):
     return any([vector & TRAILED for vector in trail[2]])
 
 
-def all_standings(course):
-    """A dict of all standings that come up: to each the standing ahead of it and the slot, None at the begin."""
-    found = {(phase, 0, ()): None for phase in range(len(course.phases))}
+def all_behind(course, begins, are_trails):
+    """A dict of all trails, or all standings, behind some: to each the one ahead of it and the slot.
+
+    To those at which the walk begins None is told.
+    """
+    found = {begin: None for begin in begins}
     order = list(found)
     at = 0
     while at < len(order):
-        standing = order[at]
+        here = order[at]
         at += 1
-        for slot, after in course.next_standings(standing):
+        for slot, after in course.onward(here, are_trails):
             if after not in found:
-                found[after] = (standing, slot)
+                found[after] = (here, slot)
                 order.append(after)
     return found
+
+
+def all_standings(course):
+    """A dict of all standings that come up, told as above."""
+    return all_behind(course, [(phase, 0, ()) for phase in range(len(course.phases))], False)
 
 
 def first_trails(course, standings):
@@ -120,21 +137,6 @@ def first_trails(course, standings):
         if trail is not None and trail not in first:
             first[trail] = standing
     return first
-
-
-def all_trails(course, first):
-    """A dict of all trails that come up: to each the trail ahead of it and the slot, None right behind its own."""
-    found = {trail: None for trail in first}
-    order = list(found)
-    at = 0
-    while at < len(order):
-        trail = order[at]
-        at += 1
-        for slot, after in course.next_trails(trail):
-            if after not in found:
-                found[after] = (trail, slot)
-                order.append(after)
-    return found
 
 
 def way_to(found, end):

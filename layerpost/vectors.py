@@ -39,5 +39,5 @@ def picked_vector(vector, places):
     """The vector that has at the bit k the bit places[k] of this one."""
     picked = 0
     for at, place in enumerate(places):
-        picked = picked | (vector >> place & 1) << at
+        picked = picked | (((vector >> place) & 1) << at)
     return picked

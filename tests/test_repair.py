@@ -1,6 +1,7 @@
 """Repair: delays, tables, worst losses and slots needed, against all standings walked through."""
 
 from itertools import product
+from unittest.mock import patch
 
 from layerpost.growths import Growth
 from layerpost.losses import Burst, LossRule, MachineRule, Total
@@ -236,6 +237,26 @@ class RefusedTest(Case):
         self.refused(("NoPhase", 3), worst_losses, PAIRS, TWO, phase=3)
         self.refused(("Nothing",), slots_needed, COPIES, TWO)
         self.assertIsNone(error_of(repaired, plan=COPIES, rule=LossRule.read("losses 0 -")))
+
+
+class GreatTablesTest(Case):
+
+    def test_a_table_of_too_many_rows(self):
+        # No plan within the bounds of these tests has so great a table, so the bound is set lower.
+        rows = len(repaired(PAIRS, Burst(1, 2)).table)
+        for most, wanted in ((rows, None), (rows - 1, ("TooMany", "rows", rows - 1)), (2, ("TooMany", "rows", 2))):
+            with patch("layerpost.repair.MOST_ROWS", most):
+                for work in (repaired, phase_delays, slots_needed):
+                    self.assertEqual(error_of(work, PAIRS, Burst(1, 2)), wanted)
+                self.assertEqual(error_of(worst_losses, PAIRS, Burst(1, 2), 0), wanted)
+                self.refused(("NoPhase", 2), worst_losses, PAIRS, Burst(1, 2), 2)
+
+    def test_nothing_comes_ahead_of_too_many(self):
+        with patch("layerpost.repair.MOST_ROWS", 2):
+            self.assertIsNone(phase_delays(COPIES, TWO))
+            self.assertIsInstance(repaired(COPIES, TWO), Never)
+            self.refused(("Nothing",), worst_losses, COPIES, TWO, 0)
+            self.refused(("Nothing",), slots_needed, COPIES, TWO)
 
 
 class PapersTest(Case):
