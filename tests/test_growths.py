@@ -286,6 +286,12 @@ class SumsTest(Case):
         # Gains are asked first: 3 and 667 of them, and a crossing far off.
         self.refused(("TooMany", "gains", 2000), lambda: Growth.steps(3) | (Growth.constant(9999) + Growth.steps(667)))
 
+    def test_a_peak_among_the_told_values_is_no_crossing_far_off(self):
+        peak, ramp = Growth((0, 10 ** 9, 0)), Growth.ramp(1)
+        self.assertEqual(str(peak | ramp), f"0 {10 ** 9} 2 then 1")
+        self.assertEqual(str(peak & ramp), "0 1 0 then 0")
+        self.assertEqual(str(ramp | peak), str(peak | ramp))
+
     def test_after_with_many_told_values(self):
         long = Growth([0, 1] * 1000, (2,))
         self.assertEqual((len(long.told), long.gains), (2000, (2,)))
@@ -302,6 +308,9 @@ class SumsTest(Case):
     def test_after_with_rounds_of_both(self):
         ten = Growth((0,), [1] + [0] * 9)
         self.assertEqual(len(ten.after(Growth.ramp(5)).gains), 2)
+        # 30 gains with the sum 50 come round twice in 100: 60 gains.
+        thirty = Growth((0,), [50] + [0] * 29)
+        self.assertEqual(len(Growth.steps(100).after(thirty).gains), 60)
         self.assertEqual(len(ten.after(Growth.steps(200)).gains), 2000)
         self.refused(("TooMany", "gains", 2000), ten.after, Growth.steps(201))
         self.assertEqual(ten.after(Growth.constant(11)), Growth.constant(2))

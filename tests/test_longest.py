@@ -1,9 +1,11 @@
 """Longest frames: against all letters of short lengths, and far off."""
 
 from itertools import product
+from unittest.mock import patch
 
 from layerpost.frames import FrameRule
 from layerpost.growths import Growth
+from layerpost.lengths import are_lasting, is_lasting
 from layerpost.longest import Longest, longest_frames, longest_letter, longest_paper, most_cells
 from layerpost.look_longest import shows_longest
 from tests.helpers import Case, any_values, dealer, error_of, some_signs
@@ -121,6 +123,56 @@ class LongestRefusedTest(Case):
                 self.refused(("Clashing", part), work)
         # A flag with a border clashes with nothing here.
         self.assertEqual(longest_frames(FrameRule("111", ("11", "0"))).first(4), (3, 4, 6, 7))
+
+
+class ForEverTest(Case):
+
+    def test_what_fits_the_first_lengths_is_not_taken(self):
+        rule = FrameRule("10001", ("1000", "0"), ("1001100", "1"))
+        wanted = longest_paper(rule)
+        self.assertEqual(str(wanted.rows[""]), "0 1 2 3 5 6 7 8 10 11 12 13 15 16 then 1 1 2")
+        for probes in (((4, 4), (400, 60)), ((1, 1), (2, 2), (24, 12)), ((400, 60),)):
+            with patch("layerpost.longest.PROBES", probes):
+                self.assertEqual(longest_paper(rule), wanted)
+
+    def test_too_many_lengths(self):
+        # No rule that was found has so many told values, so fewer are let here.
+        for probes in (((1, 1),), ((4, 4),), ((13, 3),)):
+            with patch("layerpost.longest.PROBES", probes):
+                rule = FrameRule("10001", ("1000", "0"), ("1001100", "1"))
+                for work in (lambda: longest_paper(rule), lambda: longest_frames(rule), lambda: longest_letter(rule, 3),
+                             lambda: most_cells(rule, 3)):
+                    self.refused(("TooMany", "lengths", 400), work)
+                self.assertIs(shows_longest(rule, None), False)
+        with patch("layerpost.longest.PROBES", ((14, 3),)):
+            self.assertEqual(len(longest_paper(rule).rows[""].told), 14)
+
+    def test_a_row_is_its_greatest_branch_for_ever(self):
+        two = Growth((0, 2), (2,))
+        for row, branches, wanted in (
+                (two, ((2, two), (2, two)), True), (two, ((2, two), (2, Growth.constant(0))), True),
+                (two, ((2, Growth.constant(0)), (2, two)), True), (two, ((1, two), (1, two)), False),
+                # A branch that is below now, and comes above far off.
+                (two, ((2, two), (0, Growth((0,), [3]))), False),
+                (Growth((0, 1), (1,)), ((1, Growth.ramp(1)), (1, Growth([0] * 1000, (2,)))), False),
+                # A branch of a less rate that is the greatest for all told values and one round.
+                (Growth((0, 9), (2,)), ((9, Growth((0,), (2,))), (9, Growth((0,), (1,)))), True),
+                (Growth((0, 30), (2,)), ((30, Growth((0,), (1,))), (9, Growth((0,), (2,)))), False),
+                (Growth((0, 2), (1,)), ((2, Growth((0,), (1, 0))), (2, Growth((0,), (0, 1)))), False),
+                (Growth((0, 2, 3, 3), (1, 1, 0, 2)), ((2, Growth((0,), (1, 0, 1, 2))), (0, Growth((0,), (1,)))), False),
+                (Growth((0, 2), (1, 0)), ((2, Growth((0,), (1, 0))), (2, Growth((0,), (0, 1)))), True),
+                (Growth((0, 2), (1, 0)), ((2, Growth((0,), (0, 1))), (2, Growth((0,), (0, 1)))), False),
+                # Equal rates with rounds of two and three gains: each length of a round of six is looked at.
+                (Growth((0, 1), (2, 0)), ((1, Growth((0,), (2, 0))), (0, Growth((0,), (0, 0, 3)))), True),
+                (Growth((0, 1), (2, 0)), ((1, Growth((0,), (2, 0))), (2, Growth((0,), (0, 0, 3)))), False)):
+            self.assertIs(is_lasting(row, branches), wanted, (str(row), [str(growth) for _, growth in branches]))
+
+    def test_all_rows_begin_at_0(self):
+        moves = {"": (("", "0"), ("", "10"))}
+        self.assertIs(are_lasting(moves, {"": Growth.ramp(2)}), True)
+        self.assertIs(are_lasting(moves, {"": Growth.ramp(2, 1)}), False)
+        self.assertIs(are_lasting(moves, {"": Growth.ramp(1)}), False)
+        self.assertIs(are_lasting(moves, {"": Growth((0, 2), (3,))}), False)
 
 
 class ShowsLongestTest(Case):

@@ -59,6 +59,7 @@ class ShowsClosedTest(Case):
         self.assertIs(shows((0, 1, (8,))), True)
         self.assertIs(shows((0, 0, (8,))), True)
         self.assertIs(shows((0, 1, (4,))), False)
+        self.assertIs(shows((0, 1, (15,)), (0, 0, 0, 1, (31,))), True)
         self.assertIs(shows((0, 1, (4,)), (0, 0, (8,))), True)
         self.assertIs(shows((0, 0, 1, 1)), False)
         # A row of five that is known leads nowhere; one that is not known, further on.
@@ -231,7 +232,7 @@ class ShowsWorstTest(Case):
             self.assertIs(shows_worst(COPIES, ONE, 0, 1, value), False)
             for parts in ([value, "", "x"], [0, value, "x"], [0, "", value]):
                 self.assertIs(shows_worst(COPIES, ONE, 0, 1, Worst(*parts)), False)
-        for parts in ((True, "", "x"), (False, "", "x"), (1, "", "x"), (0, "", ["x"]), (0, (), "x")):
+        for parts in ((True, "", "x"), (False, "", "x"), (1, "", "x"), (1, ".", "x"), (-1, ".", "x"), (0, "", ["x"]), (0, (), "x")):
             self.assertIs(shows_worst(COPIES, ONE, 0, 1, Worst(*parts)), False)
 
 
@@ -246,6 +247,7 @@ class RefusedTest(Case):
             self.refused(("NoPhase", value), shows_worst, PAIRS, ONE, value, None, None)
             self.refused(("BadNumber", value), shows_worst, PAIRS, ONE, 1, value, None)
         self.refused(("NoPhase", 2), shows_worst, PAIRS, ONE, 2, -1, None)
+        self.refused(("NoPhase", 3), shows_worst, PAIRS, ONE, 3, -1, None)
         self.refused(("BadNumber", 401), shows_worst, PAIRS, ONE, 0, many=401, value=None)
         self.assertIs(shows_worst(plan=PAIRS, rule=ONE, phase=0, many=400, value=None), False)
         self.assertIs(shows_repaired(plan=PAIRS, rule=ONE, value=None), False)

@@ -251,6 +251,11 @@ class GreatTablesTest(Case):
                 self.assertEqual(error_of(worst_losses, PAIRS, Burst(1, 2), 0), wanted)
                 self.refused(("NoPhase", 2), worst_losses, PAIRS, Burst(1, 2), 2)
 
+    def test_a_table_of_standings_alone(self):
+        for most, wanted in ((0, ("TooMany", "rows", 0)), (1, None)):
+            with patch("layerpost.repair.MOST_ROWS", most):
+                self.assertEqual(error_of(repaired, Plan.plain(), Total(0)), wanted)
+
     def test_nothing_comes_ahead_of_too_many(self):
         with patch("layerpost.repair.MOST_ROWS", 2):
             self.assertIsNone(phase_delays(COPIES, TWO))
