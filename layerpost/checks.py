@@ -3,6 +3,7 @@
 NAME_LETTERS = "abcdefghijklmnopqrstuvwxyz"
 MOST_NAME_LETTERS = 8
 MOST_LETTER_SIGNS = 200
+WAYS = ("first", "spare")
 
 
 def is_integer(value):
@@ -40,3 +41,8 @@ def is_signs_within(value, least, most):
 def is_letter(value):
     """Whether it is a letter: a string of at most 200 signs 0 and 1."""
     return is_signs_within(value, 0, MOST_LETTER_SIGNS)
+
+
+def is_way_word(value):
+    """Whether it is the word for one of the two ways of a flow."""
+    return isinstance(value, str) and value in WAYS

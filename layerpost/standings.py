@@ -7,6 +7,7 @@ that row, as long as it is not known.
 """
 
 from layerpost.vectors import basis_of, heard_vectors
+from layerpost.walks import steps_to, without_rings
 
 WINDOW = 15
 TRAILED = 16
@@ -141,33 +142,15 @@ def first_trails(course, standings):
 
 def way_to(found, end):
     """What came first on the way to a standing or a trail, and the slots from there on."""
-    here = end
-    slots = []
-    while found[here] is not None:
-        here, slot = found[here]
-        slots.append(slot)
-    return here, "".join(slots[::-1])
+    here, slots = steps_to(found, end)
+    return here, "".join(slots)
 
 
 def endless_trails(course, trails):
     """The dict of the trails that can go on without an end: those from which a ring can be reached."""
-    ahead = {trail: [] for trail in trails}
-    many = {}
-    for trail in trails:
-        after = course.next_trails(trail)
-        many[trail] = len(after)
-        for _, row in after:
-            ahead[row].append(trail)
-    done = [trail for trail in trails if many[trail] == 0]
-    at = 0
-    while at < len(done):
-        before = ahead[done[at]]
-        at += 1
-        for trail in before:
-            many[trail] = many[trail] - 1
-            if many[trail] == 0:
-                done.append(trail)
-    return {trail: True for trail in trails if many[trail] > 0}
+    after = {trail: [row for _, row in course.next_trails(trail)] for trail in trails}
+    done = {trail: True for trail in without_rings(after)}
+    return {trail: True for trail in trails if trail not in done}
 
 
 def ring_of(course, endless):

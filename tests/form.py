@@ -142,6 +142,7 @@ class Look:
             self.look_values(name, tree)
             self.look_calls(name, tree)
             self.look_loops(name, tree)
+            self.look_generators(name, tree)
             self.look_sets(name, tree)
             self.look_errors(name, tree)
             for node in tree.body:
@@ -290,7 +291,7 @@ class Look:
                 if not isinstance(power, ast.Constant) or not 0 <= power.value <= 64:
                     self.tell(name, node, "L27", "a power")
             elif isinstance(node, (ast.GeneratorExp, ast.Global, ast.AsyncFunctionDef, ast.Await, ast.AsyncFor,
-                                   ast.AsyncWith, ast.TryStar, ast.NamedExpr, ast.Yield, ast.YieldFrom)):
+                                   ast.AsyncWith, ast.TryStar, ast.NamedExpr)):
                 self.tell(name, node, "L6", type(node).__name__)
             elif isinstance(node, ast.Compare):
                 for sign, part in zip(node.ops, node.comparators):
@@ -389,6 +390,39 @@ class Look:
                 changed = part.value.id
             if changed in over:
                 self.tell(name, part, "L23", f"{changed} is changed in its loop")
+
+    def generators(self):
+        """All functions and methods with `yield`, by name."""
+        return {node.name for tree in self.trees.values() for node in functions_of(tree)
+                if [part for part in ast.walk(node) if isinstance(part, (ast.Yield, ast.YieldFrom))]}
+
+    def look_generators(self, name, tree):
+        told = self.generators()
+        for node in functions_of(tree):
+            if node.name not in told:
+                continue
+            many = self.functions.get(node.name, []) + self.methods.get(node.name, [])
+            if node.decorator_list or node.name.startswith("__") or node.name in METHODS or len(many) != 1:
+                self.tell(name, node, "L23", f"a generator {node.name}")
+            for part in ast.walk(node):
+                is_yield = isinstance(part, (ast.Yield, ast.YieldFrom))
+                if is_yield and not isinstance(self.parents[part], ast.Expr):
+                    self.tell(name, part, "L23", "a yield that is no statement")
+                if isinstance(part, ast.Return) and part.value is not None:
+                    self.tell(name, part, "L23", "a generator returns something")
+                if isinstance(part, (ast.Try, ast.With)):
+                    self.tell(name, part, "L23", "a generator with a try")
+        for node in ast.walk(tree):
+            if isinstance(node, ast.Name) and node.id in told and isinstance(node.ctx, ast.Load):
+                if called_name(self.parents[node]) != node.id:
+                    self.tell(name, node, "L23", f"{node.id} is a value")
+            if called_name(node) not in told and method_name(node) not in told:
+                continue
+            parent = self.parents[node]
+            is_loop = isinstance(parent, (ast.For, ast.comprehension)) and parent.iter is node
+            is_taken = called_name(parent) in ("list", "tuple", "dict", "sorted", "sum", "enumerate", "zip")
+            if not is_loop and not is_taken and not isinstance(parent, ast.YieldFrom):
+                self.tell(name, node, "L23", "a generator is not iterated at once")
 
     def look_sets(self, name, tree):
         for node in ast.walk(tree):

@@ -6,6 +6,10 @@ import layerpost.errors
 from layerpost import checks
 from layerpost.errors import PostError
 from layerpost.frames import Right, Wrong
+from layerpost.paces import Endless, Steady
+from layerpost.pairs import Broken, Once
+from layerpost.repair import Closed, Never
+from layerpost.routes import Apart, Cut
 from layerpost.verdicts import Verdict
 from tests.helpers import Case, any_values
 
@@ -60,8 +64,10 @@ class ErrorsTest(Case):
                 self.assertEqual(isinstance(error, getattr(layerpost.errors, other)), other == name)
 
     def test_verdicts(self):
-        self.assertEqual([kind.__mro__[1] for kind in (Right, Wrong)], [Verdict, Verdict])
-        self.assertEqual([bool(Right(())), bool(Wrong(""))], [True, False])
+        for yes, no in ((Right, Wrong), (Closed, Never), (Apart, Cut), (Once, Broken), (Steady, Endless)):
+            self.assertEqual([kind.__mro__[1] for kind in (yes, no)], [Verdict, Verdict])
+            made = [kind(*range(len(inspect.signature(kind).parameters))) for kind in (yes, no)]
+            self.assertEqual([bool(paper) for paper in made], [True, False])
 
 
 class ChecksTest(Case):
