@@ -5,11 +5,15 @@ import inspect
 import layerpost.errors
 from layerpost import checks
 from layerpost.errors import PostError
+from layerpost.exchange import Ranks
+from layerpost.follow import Journey
 from layerpost.frames import Right, Wrong
+from layerpost.longest import Longest
 from layerpost.paces import Endless, Steady
 from layerpost.pairs import Broken, Once
-from layerpost.repair import Closed, Never
+from layerpost.repair import Closed, Never, Worst
 from layerpost.routes import Apart, Cut
+from layerpost.tables import Leads, Ring, Stops
 from layerpost.verdicts import Verdict
 from tests.helpers import Case, any_values
 
@@ -64,10 +68,12 @@ class ErrorsTest(Case):
                 self.assertEqual(isinstance(error, getattr(layerpost.errors, other)), other == name)
 
     def test_verdicts(self):
-        for yes, no in ((Right, Wrong), (Closed, Never), (Apart, Cut), (Once, Broken), (Steady, Endless)):
+        for yes, no in ((Right, Wrong), (Closed, Never), (Apart, Cut), (Leads, Ring), (Leads, Stops), (Ranks, Ring),
+                        (Once, Broken), (Steady, Endless)):
             self.assertEqual([kind.__mro__[1] for kind in (yes, no)], [Verdict, Verdict])
             made = [kind(*range(len(inspect.signature(kind).parameters))) for kind in (yes, no)]
             self.assertEqual([bool(paper) for paper in made], [True, False])
+        self.assertFalse([kind for kind in (Longest, Worst, Journey) if issubclass(kind, Verdict)])
 
 
 class ChecksTest(Case):

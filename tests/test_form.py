@@ -51,6 +51,17 @@ INTERFACE = {
                  **dict.fromkeys("events first_stand played once least_marks".split())},
     "paces.py": {"Steady": "__init__ __bool__ __eq__".split(), "Endless": "__init__ __bool__ __eq__".split(),
                  "steady": None},
+    "tables.py": {"Tables": "__init__ __getitem__ __len__ __iter__ laid __or__ __eq__ of".split(), "leads": None,
+                  **{name: "__init__ __bool__ __eq__".split() for name in ("Leads", "Ring", "Stops")}},
+    "exchange.py": {"Bench": "__init__ offer give turn drop hue_of next_house undo deeds __eq__".split(),
+                    "Ranks": "__init__ __bool__ __eq__".split(), **dict.fromkeys("mixed any_order safe_order".split())},
+    "look_tables.py": dict.fromkeys("shows_apart shows_any_order".split()),
+    "look_pairs.py": dict.fromkeys("shows_once shows_steady".split()),
+    "hops.py": {"hop_growth": None},
+    "runs.py": {"Fall": "__init__ __eq__ __str__ read".split(),
+                "Run": """__init__ place_of phase_of losses_of contents_of told_lanes told_lines with_place with_line
+                    with_contents with_fall on_net joined __eq__""".split()},
+    "follow.py": {"Journey": ["__init__", "__eq__"], **dict.fromkeys("passage followed".split())},
     "rounds.py": {"Round": """__init__ __len__ __iter__ __contains__ __getitem__ __call__ own flow_names __add__ __mul__
         __rmul__ __lshift__ with_slot __eq__ is_like __str__ read""".split()},
 }
