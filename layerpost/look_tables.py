@@ -16,8 +16,6 @@ def are_apart(net, flow, one, other):
 
 def is_cut(net, flow, name, side):
     """Whether any values are a name that all ways of a Flow have, None if there is no way, and what is reached."""
-    if not isinstance(side, tuple):
-        return False
     free = reached(net, flow, None)
     if flow.end not in free:
         return name is None and side == free

@@ -22,9 +22,9 @@ def letters_at(way):
     return 2 * WAYS.index(way)
 
 
-def as_told(number, marks):
-    """A number as stands tell it: below 1 only its rest by the marks counts."""
-    return number if number > 0 else -(-number % marks)
+def one_less(number, marks):
+    """A number of at most 1, less by 1, as stands tell it: below 1 only its rest by the marks counts."""
+    return -((1 - number) % marks)
 
 
 def has_room(pair, road):
@@ -61,7 +61,7 @@ def taken_off(roads, at, place):
 
 def lowered(roads, marks):
     """The roads behind a letter that was handed out: all numbers are less by 1."""
-    return tuple([None if road is None else tuple([as_told(number - 1, marks) for number in road]) for road in roads])
+    return tuple([None if road is None else tuple([one_less(number, marks) for number in road]) for road in roads])
 
 
 def send_rows(pair, stand):
@@ -79,7 +79,7 @@ def arrived(pair, stand, at, place):
     number = roads[at][place]
     left = put_on(taken_off(roads, at, place), at + 1, number)
     if number == 1:
-        return way, waits, as_told(ahead - 1, pair.marks), lowered(left, pair.marks), falls
+        return way, waits, one_less(ahead, pair.marks), lowered(left, pair.marks), falls
     if (number - 1) % pair.marks == 0:
         return "twice"
     return way, waits, ahead, left, falls

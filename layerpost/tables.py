@@ -110,7 +110,6 @@ class Tables:
     @staticmethod
     def of(net):
         """The tables with two ways that are apart for each flow."""
-        check_net(net)
         tables = Tables(net)
         for flow in net.flows:
             ways = apart(net, flow.name)

@@ -34,16 +34,16 @@ def example_net():
     return Net(list("abcd"), links, [Flow("x", "a", "d", 4, 90)], SIMPLE, 4)
 
 
-def dealt_net(chance, most=8, many=14, own=.93):
+def dealt_net(chance, most=8, many=14, own=.93, least=2):
     """A net by chance: some lanes are not the flow's."""
-    houses = [name * 2 for name in "hgfedcba"[:chance.randint(2, most)]]
+    houses = [name * 2 for name in "jihgfedcba"[10 - chance.randint(least, most):]]
     pairs = list(combinations(houses, 2))
     chance.shuffle(pairs)
     links = []
-    for at, pair in enumerate(pairs[:chance.randint(0, min(len(pairs), many))]):
+    for at, pair in enumerate(pairs[:chance.randint(0 if least == 2 else least, min(len(pairs), many))]):
         one, other = chance.sample(pair, 2)
         slots = ["x" if chance.random() < own else "y -" for _ in range(2)]
-        links.append(link(chance.choice("az") + "bcdefghijklmno"[at], one, other, *slots))
+        links.append(link(chance.choice("az") + "bcdefghijklmnopqrst"[at], one, other, *slots))
     begin, end = chance.sample(houses, 2)
     return Net(houses, links, [Flow("q", end, begin, 0, 1), Flow("x", begin, end, 4, 9)], SIMPLE, 4)
 

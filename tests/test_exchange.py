@@ -197,6 +197,29 @@ class BenchTest(Case):
         [bench.drop("b") for bench in ends]
         self.assertTrue(ends[0] == ends[1])
 
+    def test_benches_of_other_nets_and_of_the_other_hue(self):
+        net = net_of("ad", "ad")
+        longer = net | Flow("x", "a", "d", 5, 90)
+        self.assertFalse(Bench(Tables(net)) == Bench(Tables(longer)))
+        # One has turned and is to drop the hue 0, the other one is to turn from 1; what they keep and take is the same.
+        one, other = self.all_given(Bench(Tables(net))), self.all_given(Bench(Tables(net)))
+        for bench in (one, other):
+            bench.turn("x")
+        for house in net.houses:
+            other.drop(house)
+        self.all_given(other)
+        self.assertEqual(asked(one, net), asked(other, net))
+        self.assertFalse(one == other)
+        self.assertIsNone(one.drop("a"))
+        self.refused(("Clashing", "early"), other.drop, "a")
+
+    def all_given(self, bench):
+        """The bench, behind an offer of nothing that all houses of this net have got."""
+        bench.offer(Tables(net_of("ad", "ad")))
+        bench.give("a")
+        bench.give("d")
+        return bench
+
     def test_refused(self):
         net = example_net()
         tables = Tables.of(net)

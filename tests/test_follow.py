@@ -1,5 +1,7 @@
 """Passages and journeys, against flows that the test plays tick by tick and slot by slot."""
 
+from itertools import product
+
 from layerpost.follow import Journey, followed, passage
 from layerpost.frames import FrameRule
 from layerpost.losses import Burst, MachineRule, Total
@@ -9,6 +11,7 @@ from layerpost.rounds import Round
 from layerpost.runs import Fall, Run
 from layerpost.tables import Tables
 from tests.helpers import Case, any_values, dealer
+from tests.test_letters import let_losses
 from tests.ticks import Copy, SlowFlow, SlowLine
 
 LINES = ((Plan.plain(), Total(0)), (Plan.copies(1), Burst(1, 1)), (Plan.groups(2), Burst(1, 2)), (Plan.copies(1, 2), Burst(2, 2)),
@@ -26,15 +29,6 @@ def dealt_lane(chance, lines):
     """A lane by chance."""
     plan, rule = chance.choice(lines)
     return Lane(Round.read(chance.choice(RINGS)), chance.choice((0, 0, 1, 3)), plan, rule)
-
-
-def dealt_losses(chance, rule, many):
-    """Losses by chance that a rule lets."""
-    losses = ""
-    for _ in range(many):
-        slot = chance.choice(".xx")
-        losses += slot if rule.lets(losses + slot) else "."
-    return losses
 
 
 def two_ways(chance, ways, timeout, lines):
@@ -56,7 +50,7 @@ def dealt_run(net, chance, fall=None, many=4):
                     for _ in range(many)])
     return Run(net, {key: chance.randrange(len(lane.ring)) for key, lane in lanes.items()},
                {key: chance.randrange(len(lane.plan)) for key, lane in lines.items()},
-               {key: dealt_losses(chance, lane.rule, chance.choice((0, 5, 25))) for key, lane in lines.items()},
+               {key: let_losses(chance, lane.rule, chance.choice((0, 5, 25))) for key, lane in lines.items()},
                {"x": sorted(pairs, key=lambda pair: pair[0])}, fall)
 
 
@@ -73,7 +67,7 @@ class PassageTest(Case):
         for at in range(500):
             lane = dealt_lane(chance, LINES + LOSSY)
             net = Net(["a", "b"], [Link("l", "b", "a", Lane(Round("-" and None)), lane)], [Flow("x", "a", "b", 4, 9)], FRAMES, 4)
-            losses = dealt_losses(chance, lane.rule, chance.choice((0, 3, 12, 60)))
+            losses = let_losses(chance, lane.rule, chance.choice((0, 3, 12, 60)))
             place, phase = chance.randrange(len(lane.ring)), chance.randrange(len(lane.plan))
             run = Run(net, {("l", "a"): place}, {("l", "a", "x"): phase}, {("l", "a", "x"): losses}, fall=Fall(0, "l"))
             ready, cells = chance.choice((0, 1, 2, 7, 30, 60, chance.randint(0, 200))), chance.randint(1, 8)
@@ -81,6 +75,20 @@ class PassageTest(Case):
             self.assertEqual(passage(run, net.links[0], "a", "x", ready, cells), wanted, at)
             never += wanted is None
         self.assertGreater(never, 60)
+
+    def test_all_short_losses(self):
+        # Rows ahead of the cells that stay unknown play a part as far as a sum can reach.
+        for plan in (Plan.groups(3), Plan(Phase((1, 4))), Plan(Phase((4,), (1, 2)), Phase((3,))),
+                     Plan(Phase((1, 3)), Phase((1, 2, 4), mute=True), Phase((2,)))):
+            lane = Lane(Round("x"), 0, plan, MachineRule((0, 0)))
+            net = Net(["a", "b"], [Link("l", "a", "b", lane, lane)], [Flow("x", "a", "b", 4, 9)], FRAMES, 4)
+            for losses in ["".join(signs) for many in (3, 5) for signs in product(".x", repeat=many)]:
+                for phase in range(len(plan)):
+                    run = Run(net, None, {("l", "a", "x"): phase}, {("l", "a", "x"): losses})
+                    for ready in range(len(losses) + 1):
+                        for cells in (1, 2):
+                            wanted = self.walked(lane, 0, phase, losses, ready, cells)
+                            self.assertEqual(passage(run, net.links[0], "a", "x", ready, cells), wanted)
 
     def walked(self, lane, place, phase, losses, ready, cells):
         """The tick, by a line slot by slot; as long as a kept slot could tell something."""

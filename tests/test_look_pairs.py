@@ -76,6 +76,33 @@ class ShowsOnceTest(Case):
                       ("spare", True, 1, ((), (), (), (-1,)), 0)):
             self.assertIs(shows_once(pair, Once((*stands, wrong))), False)
 
+    def test_stands_of_other_kinds_with_all_behind_them(self):
+        swing = Pair(change="swing", falls=0)
+        fallen, free = (None,) * 4, ((), (), (), ())
+        for pair, stand, wanted in (
+                (swing, ("first", True, 1, fallen, 0), True), (swing, ("spare", True, 0, fallen, 0), True),
+                (swing, ("first", True, 2, fallen, 0), False), (swing, ("first", True, -1, fallen, 0), False),
+                (swing, ("first", False, 1, ((), (0,), (), ()), 0), True),
+                (swing.but(marks=3), ("first", False, 1, ((), (-1,), (), ()), 0), True),
+                (swing, ("first", False, 1, ((), (2,), (), ()), 0), False), (swing, ("first", False, 1, ((), (-2,), (), ()), 0), False),
+                (swing, ("first", False, 1, ((), (0, 0), (), ()), 0), False), (swing, ("spare", False, 1, free, 1), False),
+                (swing.but(room=2), ("first", False, 1, ((), (0, 0), (), ()), 0), True),
+                (swing.but(room=2), ("first", False, 1, ((), (0, 0, 0), (), ()), 0), False),
+                (swing.but(falls=1), ("spare", False, 1, free, 1), True), (swing.but(falls=1), ("spare", False, 1, free, 2), False)):
+            # No walk from either stand breaks the pair, so it is the kind of the stand that counts.
+            more = self.all_behind(pair, stand) + self.all_behind(pair, first_stand(pair))
+            self.assertIs(shows_once(pair, Once(tuple(more))), wanted, stand)
+
+    def all_behind(self, pair, begin):
+        """All stands behind one, itself too; None if it breaks the pair."""
+        found = [begin]
+        for stand in found:
+            rows = slow_events(pair, stand)
+            if is_stuck(rows) or [outcome for _, outcome in rows if isinstance(outcome, str)]:
+                return None
+            found += [outcome for _, outcome in rows if outcome not in found]
+        return found
+
     def test_stands_of_other_pairs(self):
         chance = dealer(1)
         told = [(pair, answer) for pair, answer in answers() if isinstance(answer, Once)]

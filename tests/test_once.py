@@ -103,7 +103,8 @@ class OnceTest(Case):
                 self.assertEqual(paper, kind(**dict(zip(names[::-1], (other, value)))))
                 self.assertIs(bool(paper), is_true)
                 self.assertIsInstance(paper, Verdict)
-                self.assertFalse(paper == kind(other, value) or paper == (value, other) or paper == Once(value))
+                self.assertFalse(paper == kind("other", other) or paper == kind(value, "other"))
+                self.assertFalse(paper == (value, other) or paper == Once(value))
             self.assertEqual((Once(stands=value), vars(Once(value)), bool(Once(value))), (Once(value), {"stands": value}, True))
             self.assertFalse(Once(value) == Once(other))
 

@@ -68,6 +68,11 @@ class ApartTest(Case):
             found[self.checked(net)] += 1
         self.assertGreater(min(found.values()), 25)
 
+    def test_against_all_ways_of_larger_nets(self):
+        chance = dealer(3)
+        found = [self.checked(dealt_net(chance, most=10, many=18, own=1, least=8)) for _ in range(500)]
+        self.assertGreater(found.count("apart"), 150)
+
     def checked(self, net):
         """apart is right for the flow x of a net; the kind of its answer."""
         ways, answer = walked_ways(net, "x"), apart(net, "x")
@@ -106,6 +111,17 @@ class ApartTest(Case):
             wanted = {tuple([swap[house] for house in way]) for way in ("abfgh", "acdeh")}
             self.assertEqual({answer.main, answer.spare}, wanted)
             self.assertEqual(self.checked(net), "apart")
+
+    def test_nets_whose_shortest_way_is_none_of_the_best_two(self):
+        # Beside a b c d h there is a e f g l j k h; the best two go by e f g d and by b i j k, with a house less.
+        for names in ("abcdefghijkl", "lkjihgfedcba", "afkbglchdiej", "adgjbehkcfil"):
+            swap = dict(zip("abcdefghijkl", names))
+            pairs = " ".join([swap[one] + swap[other] for one, other in "ab bc cd dh ae ef fg gd bi ij jk kh gl lj".split()])
+            net = net_of("abcdefghijkl", pairs, [("x", names[0], names[7])])
+            self.assertEqual(min(map(len, walked_ways(net, "x"))), 5)
+            self.assertEqual(self.checked(net), "apart")
+            wanted = {tuple([swap[house] for house in way]) for way in ("aefgdh", "abijkh")}
+            self.assertEqual({apart(net, "x").main, apart(net, "x").spare}, wanted)
 
     def test_ways_that_share_only_their_ends(self):
         net = net_of("abd", "ab bd ad")
