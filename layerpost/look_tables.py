@@ -2,16 +2,13 @@
 
 from layerpost.checks import is_integer
 from layerpost.exchange import Ranks, rows_asked
-from layerpost.routes import Apart, Cut, check_net, is_way_of, names_between, reached
+from layerpost.routes import Apart, Cut, are_ways_apart, check_net, is_way_of, names_between, reached
 from layerpost.tables import Ring, Stops
 
 
 def are_apart(net, flow, one, other):
     """Whether any values are two ways of a Flow without a common house between and without a common link."""
-    if not is_way_of(net, flow, one) or not is_way_of(net, flow, other):
-        return False
-    # Two rows of unlike houses with no house between in common have a link in common only if they are that link.
-    return len(one) + len(other) > 4 and not any([house in other for house in one[1:-1]])
+    return is_way_of(net, flow, one) and is_way_of(net, flow, other) and are_ways_apart(one, other)
 
 
 def is_cut(net, flow, name, side):

@@ -64,6 +64,12 @@ def is_way(net, flow, houses):
     return is_way_of(net, net.flow_named(flow), houses)
 
 
+def are_ways_apart(one, other):
+    """Whether two ways of a flow have no house between and no link in common."""
+    # Two rows of unlike houses with no house between in common have a link in common only if they are that link.
+    return len(one) + len(other) > 4 and not any([house in other for house in one[1:-1]])
+
+
 def lanes_along(net, houses):
     """The tuple of the lanes from each of these houses to the next one."""
     return tuple([net.between(one, other).lane_from(one) for one, other in zip(houses, houses[1:])])

@@ -192,9 +192,8 @@ def composed_parts(one, other):
     length = len(other.gains) * turns
     if length > MOST_PARTS:
         raise TooMany("gains", MOST_PARTS)
-    values = first_values(other, MOST_PARTS)
     begin = len(other.told)
-    while begin <= MOST_PARTS and values[begin - 1] < len(one.told) - 1:
+    while begin <= MOST_PARTS and value_at(other, begin - 1) < len(one.told) - 1:
         begin += 1
     if begin > MOST_PARTS:
         raise TooMany("told", MOST_PARTS)

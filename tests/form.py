@@ -401,8 +401,10 @@ class Look:
         for node in functions_of(tree):
             if node.name not in told:
                 continue
-            many = self.functions.get(node.name, []) + self.methods.get(node.name, [])
-            if node.decorator_list or node.name.startswith("__") or node.name in METHODS or len(many) != 1:
+            # The interface has two generators of one name: then none of that name is anything else.
+            others = [other for tree in self.trees.values() for other in functions_of(tree) if other.name == node.name and not [
+                part for part in ast.walk(other) if isinstance(part, (ast.Yield, ast.YieldFrom))]]
+            if node.decorator_list or node.name.startswith("__") or node.name in METHODS or others:
                 self.tell(name, node, "L23", f"a generator {node.name}")
             for part in ast.walk(node):
                 is_yield = isinstance(part, (ast.Yield, ast.YieldFrom))
@@ -492,7 +494,35 @@ class Look:
             if node.name in ("__str__", "__repr__") and not is_text:
                 self.tell(name, node, "L28", f"{node.name} returns another thing")
 
+    def look_exit(self, name, node):
+        """What stands in an `__exit__`: attributes that are assigned, and tests whether there is an error."""
+        names = [part.arg for part in node.args.args]
+        if names != ["self", "kind", "value", "trace"]:
+            self.tell(name, node, "L6", "__exit__ takes self, kind, value and trace")
+        for part in [part for row in node.body for part in ast.walk(row)]:
+            is_row = isinstance(part, ast.Assign) and all([isinstance(word, ast.Attribute) for word in part.targets])
+            if isinstance(part, ast.stmt) and not is_row and not isinstance(part, (ast.If, ast.Pass)):
+                self.tell(name, part, "L6", "a row of __exit__")
+            if is_row and not isinstance(part.value, (ast.Attribute, ast.Name, ast.Constant, ast.List)):
+                self.tell(name, part, "L6", "what __exit__ assigns")
+            if isinstance(part, ast.If) and ast.unparse(part.test) not in ("kind is None", "kind is not None"):
+                self.tell(name, part, "L6", "what __exit__ asks")
+            if isinstance(part, ast.Name) and part.id in ("value", "trace"):
+                self.tell(name, part, "L6", f"__exit__ reads {part.id}")
+
+    def look_with(self, name, node):
+        for item in node.items:
+            if item.optional_vars is not None and not isinstance(item.optional_vars, ast.Name):
+                self.tell(name, node, "L6", "a block as something that is no name")
+            if not isinstance(item.context_expr, (ast.Call, ast.Name, ast.Attribute)):
+                self.tell(name, node, "L6", "a block over no call, name or attribute")
+
     def look_function(self, name, tree, node):
+        if node.name == "__exit__":
+            self.look_exit(name, node)
+        for part in ast.walk(node):
+            if isinstance(part, ast.With):
+                self.look_with(name, part)
         if node.end_lineno - node.lineno + 1 > 40:
             self.tell(name, node, "L10", "too long a function")
         if node.decorator_list and not isinstance(self.parents[node], ast.ClassDef):
@@ -552,7 +582,8 @@ class Look:
             for node in kind.body:
                 if isinstance(node, ast.FunctionDef):
                     is_property = [mark for mark in node.decorator_list if getattr(mark, "id", "") == "property"]
-                    is_quiet = node.name.startswith("__") and node.name not in ("__init__", "__call__", "__iter__")
+                    is_quiet = node.name.startswith("__") and node.name not in (
+                        "__init__", "__call__", "__iter__", "__enter__", "__exit__")
                     if is_property or is_quiet:
                         left.append(node)
         seen = set(left)

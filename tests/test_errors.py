@@ -4,7 +4,9 @@ import inspect
 
 import layerpost.errors
 from layerpost import checks
+from layerpost.bounds import Alarm, Met, Sound
 from layerpost.errors import PostError
+from layerpost.events import Event
 from layerpost.exchange import Ranks
 from layerpost.follow import Journey
 from layerpost.frames import Right, Wrong
@@ -69,11 +71,11 @@ class ErrorsTest(Case):
 
     def test_verdicts(self):
         for yes, no in ((Right, Wrong), (Closed, Never), (Apart, Cut), (Leads, Ring), (Leads, Stops), (Ranks, Ring),
-                        (Once, Broken), (Steady, Endless)):
+                        (Once, Broken), (Steady, Endless), (Sound, Alarm)):
             self.assertEqual([kind.__mro__[1] for kind in (yes, no)], [Verdict, Verdict])
             made = [kind(*range(len(inspect.signature(kind).parameters))) for kind in (yes, no)]
             self.assertEqual([bool(paper) for paper in made], [True, False])
-        self.assertFalse([kind for kind in (Longest, Worst, Journey) if issubclass(kind, Verdict)])
+        self.assertFalse([kind for kind in (Longest, Worst, Journey, Met, Event) if issubclass(kind, Verdict)])
 
 
 class ChecksTest(Case):

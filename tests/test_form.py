@@ -62,6 +62,17 @@ INTERFACE = {
                 "Run": """__init__ place_of phase_of losses_of contents_of told_lanes told_lines with_place with_line
                     with_contents with_fall on_net joined __eq__""".split()},
     "follow.py": {"Journey": ["__init__", "__eq__"], **dict.fromkeys("passage followed".split())},
+    "bounds.py": {"Sound": "__init__ __bool__ __eq__".split(), "Alarm": "__init__ __bool__ __eq__".split(),
+                  "Met": ["__init__", "__eq__"],
+                  **dict.fromkeys("""cells_growth lane_growth way_growth answer_ticks round_trip lane_shares answer_shares
+                      greatest_delay sound worst_run exchange_ticks""".split())},
+    "look_bounds.py": dict.fromkeys("shows_sound shows_met".split()),
+    "events.py": {"Event": "__init__ __eq__ __str__".split()},
+    "streams.py": {"Stream": "__init__ taking behind cell_count is_idle __eq__".split()},
+    "parcels.py": {},
+    "player.py": {"Player": """__init__ advance go send clock is_idle handed ticks_of waiting way_of hue_of places_of events offer
+        give turn drop undo deeds trial tried attempt twin __eq__""".split()},
+    "stacks.py": {"Stack": "__init__ delay_of but __eq__".split()},
     "rounds.py": {"Round": """__init__ __len__ __iter__ __contains__ __getitem__ __call__ own flow_names __add__ __mul__
         __rmul__ __lshift__ with_slot __eq__ is_like __str__ read""".split()},
 }
@@ -96,6 +107,12 @@ BROKEN = (
     ("def f(xs):\n    k = yield xs", "L23"), ("class A:\n    @property\n    def f(self):\n        yield 1", "L23"),
     ("def f():\n    try:\n        yield 1\n    except KeyError:\n        pass", "L23"),
     ("def f():\n    yield 1\nclass A:\n    def f(self):\n        return 1", "L23"),
+    ("class A:\n    def __exit__(self, kind, value, trace):\n        self.f()", "L6"),
+    ("class A:\n    def __exit__(self, kind, value, trace):\n        self.k = value", "L6"),
+    ("class A:\n    def __exit__(self, kind, value, trace):\n        self.k = f(1)", "L6"),
+    ("class A:\n    def __exit__(self, kind):\n        self.k = 1", "L6"),
+    ("class A:\n    def __exit__(self, kind, value, trace):\n        if self.k:\n            self.k = 1", "L6"),
+    ("def f(x):\n    with x as x.k:\n        return 1", "L6"), ("def f(x):\n    with x[0]:\n        return 1", "L6"),
     ("def f():\n    yield 1\ndef g():\n    return f()", "L23"), ("def f():\n    yield 1\ndef g():\n    return [f]", "L23"), ("def f(xs):\n    ys = {x for x in xs}\n    return ys", "L24"),
     ("def f(x):\n    return x.format(1)", "L25"), ("def f(x):\n    return x.encode()", "L25"),
     ("def f(x):\n    x.items = 1", "L26"), ("class A:\n    def split(self):\n        return 1", "L26"),
