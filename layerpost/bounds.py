@@ -137,7 +137,7 @@ def answer_shares(tables, flow, mark, way="first"):
     return shares(legs.back, legs.cells_of_marks()[mark](0))
 
 
-def check_pair(legs, spare):
+def check_ways(legs, spare):
     """Raises unless the ways are apart and the flow is sound."""
     if not are_ways_apart(legs.houses, spare.houses):
         raise Clashing("ways")
@@ -159,7 +159,7 @@ def greatest_delay(tables, flow, length, falls=0):
     if falls == 0:
         return max(delays_at(legs, length))
     spare = legs_of(tables, flow, "spare")
-    check_pair(legs, spare)
+    check_ways(legs, spare)
     return max([*delays_at(legs, length), legs.flow.timeout + max(delays_at(spare, length))])
 
 
@@ -194,7 +194,7 @@ def worst_run(tables, flow, length, way="first"):
     first = legs_of(tables, flow, "first")
     check_length(length, legs.flow.most)
     if way == "spare":
-        check_pair(first, legs)
+        check_ways(first, legs)
     check_sound(first)
     delays = delays_at(legs, length)
     if max(delays) > MOST_DELAY:

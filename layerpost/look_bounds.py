@@ -1,6 +1,6 @@
 """Looks at papers of sound flows, and at runs that meet the greatest delay, followed lane by lane."""
 
-from layerpost.bounds import Alarm, Met, Sound, check_length, check_pair, check_sound
+from layerpost.bounds import Alarm, Met, Sound, check_length, check_ways, check_sound
 from layerpost.checks import is_integer, is_letter, is_within
 from layerpost.follow import followed
 from layerpost.legs import delays_at, legs_of, shares, trips_at
@@ -104,7 +104,7 @@ def shows_met(tables, flow, length, way, value):
     first = legs_of(tables, flow, "first")
     check_length(length, first.flow.most)
     if way == "spare":
-        check_pair(first, legs)
+        check_ways(first, legs)
     check_sound(first)
     if not isinstance(value, Met) or not is_run_of(tables, value.run):
         return False

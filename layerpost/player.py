@@ -41,7 +41,7 @@ class Player:
         """One tick; the tuple of its Events."""
         self.check_ticks(1)
         scene = self.now.copy_of()
-        scene.play()
+        scene.do_tick()
         self.done("advance", scene)
         return tuple(scene.news)
 
@@ -52,7 +52,7 @@ class Player:
         self.check_ticks(many)
         scene = self.now.copy_of()
         for _ in range(many):
-            scene.play()
+            scene.do_tick()
         self.done("go", scene)
 
     def send(self, flow, letter):

@@ -50,7 +50,7 @@ class Scene:
         """Something has happened."""
         self.news.append(Event(self.tick, word, flow, name, mark))
 
-    def play(self):
+    def do_tick(self):
         """One tick; its events are kept in news until the next one."""
         self.news = []
         self.do_fall()

@@ -223,11 +223,20 @@ class Look:
     def imported_in(self, tree):
         return [alias.name for node in tree.body if isinstance(node, ast.ImportFrom) for alias in node.names]
 
+    def is_table(self, tree, at):
+        """Whether a list, tuple or dict at module level holds plain values and functions that are defined above it."""
+        above = [node.name for node in tree.body[:at] if isinstance(node, ast.FunctionDef)]
+        value = tree.body[at].value
+        keys = [key for key in value.keys] if isinstance(value, ast.Dict) else []
+        parts = value.values if isinstance(value, ast.Dict) else getattr(value, "elts", [])
+        return isinstance(value, (ast.Dict, ast.List, ast.Tuple)) and all([key is not None and is_plain(key) for key in keys]) and all(
+            [is_plain(part, True) or isinstance(part, ast.Name) and part.id in above for part in parts])
+
     def look_module(self, name, tree):
         for at, node in enumerate(tree.body):
             is_docstring = at == 0 and isinstance(node, ast.Expr) and isinstance(node.value, ast.Constant)
             is_value = isinstance(node, ast.Assign) and len(node.targets) == 1 and isinstance(
-                node.targets[0], ast.Name) and is_plain(node.value)
+                node.targets[0], ast.Name) and (is_plain(node.value) or self.is_table(tree, at))
             if not is_docstring and not is_value and not isinstance(
                     node, (ast.ImportFrom, ast.Import, ast.FunctionDef, ast.ClassDef)):
                 self.tell(name, node, "L3", "a statement at module level")
