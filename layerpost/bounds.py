@@ -89,8 +89,9 @@ def lane_growth(net, link, house, flow):
     return hop_growth(lane.plan, lane.rule, lane.ring, flow, lane.travel)
 
 
-def summed_hops(legs, cells):
-    """The sum of the greatest delays of a way's lanes, for letters of so many cells."""
+def summed_hops(legs, mark):
+    """The growth D of a way for letters with a mark."""
+    cells = legs.cells_of_marks()[mark]
     growths = [growth.after(cells) for _, growth in legs.forth]
     return Growth.summed(*growths)
 
@@ -100,23 +101,22 @@ def way_growth(tables, flow, way="first", mark=None):
     legs = legs_of(tables, flow, way)
     if mark is not None:
         check_mark(mark)
-        return summed_hops(legs, legs.cells_of_marks()[mark])
-    one, other = [summed_hops(legs, cells) for cells in legs.cells_of_marks()]
-    return one | other
+        return summed_hops(legs, mark)
+    return summed_hops(legs, 0) | summed_hops(legs, 1)
 
 
 def answer_ticks(tables, flow, mark, way="first"):
     """The greatest delay B of an answer with a mark."""
     legs = legs_of(tables, flow, way)
     check_mark(mark)
-    return ticks_for(legs.back, legs.cells_of_marks()[mark](0))
+    return ticks_for(legs.back, legs.cells_at(mark, 0))
 
 
 def round_trip(tables, flow, way="first"):
     """The growth R of a way: for each number of bits the greatest round trip of a letter and its answer."""
     legs = legs_of(tables, flow, way)
-    one, other = [summed_hops(legs, cells) + Growth.constant(ticks_for(legs.back, cells(0)))
-                  for cells in legs.cells_of_marks()]
+    one, other = [summed_hops(legs, mark) + Growth.constant(ticks_for(legs.back, legs.cells_at(mark, 0)))
+                  for mark in (0, 1)]
     return one | other
 
 
@@ -127,14 +127,14 @@ def lane_shares(tables, flow, length, way="first", mark=None):
     if mark is not None:
         check_mark(mark)
     worst = worse_mark(delays_at(legs, length)) if mark is None else mark
-    return shares(legs.forth, legs.cells_of_marks()[worst](length))
+    return shares(legs.forth, legs.cells_at(worst, length))
 
 
 def answer_shares(tables, flow, mark, way="first"):
     """What each lane back adds to the greatest delay of an answer, from the end on."""
     legs = legs_of(tables, flow, way)
     check_mark(mark)
-    return shares(legs.back, legs.cells_of_marks()[mark](0))
+    return shares(legs.back, legs.cells_at(mark, 0))
 
 
 def check_ways(legs, spare):
@@ -176,14 +176,13 @@ def sound(tables, flow):
     trips = trips_at(legs, most)
     if max(trips) <= legs.flow.timeout:
         mark = worse_mark(trips)
-        cells = legs.cells_of_marks()[mark]
-        return Sound(max(trips), mark, shares(legs.forth, cells(most)), shares(legs.back, cells(0)))
+        forth = shares(legs.forth, legs.cells_at(mark, most))
+        return Sound(max(trips), mark, forth, shares(legs.back, legs.cells_at(mark, 0)))
     # The letter ahead of one with the mark 1 has no time-out if the mark 0 cannot have one.
     mark = 0 if trips[0] > legs.flow.timeout else 1
-    cells = legs.cells_of_marks()[mark]
     meeting = Meeting(legs)
-    meeting.go_along(legs, cells(most), True)
-    meeting.go_along(legs, cells(0), False)
+    meeting.go_along(legs, legs.cells_at(mark, most), True)
+    meeting.go_along(legs, legs.cells_at(mark, 0), False)
     taken = meeting.first_tick(mark)
     return Alarm(max(trips), meeting.run_at(taken).with_contents(flow, contents_for(legs.net, mark, most, taken)))
 
@@ -203,7 +202,7 @@ def worst_run(tables, flow, length, way="first"):
     meeting = Meeting(first)
     if way == "spare":
         meeting.wait(legs.flow.timeout)
-    meeting.go_along(legs, legs.cells_of_marks()[mark](length), True)
+    meeting.go_along(legs, legs.cells_at(mark, length), True)
     taken = meeting.first_tick(mark)
     contents = contents_for(legs.net, mark, length, taken)
     run = meeting.run_at(taken).with_contents(flow, contents)

@@ -160,7 +160,7 @@ def do_send(board, values):
 def do_go(board, values):
     """Ticks of the play."""
     play = board.play.twin()
-    play.go(*values)
+    play.go(values[0])
     return with_play(board, play)
 
 

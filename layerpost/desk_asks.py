@@ -23,13 +23,13 @@ def ask_run(board, values):
 
 def ask_frame(board, values):
     """The frame of a letter."""
-    return board.net.rule.frame(*values)
+    return board.net.rule.frame(values[0])
 
 
 def ask_cells(board, values):
     """The most cells of a letter."""
     growth = cells_growth(board.net)
-    return str(growth(*values))
+    return str(growth(values[0]))
 
 
 def way_word(answer):

@@ -54,6 +54,11 @@ class Legs:
             self.cells = [most_cells(self.net.rule, self.net.size, mark) for mark in "01"]
         return self.cells
 
+    def cells_at(self, mark, length):
+        """The most cells of a letter with a mark and so many bits; an answer is one without bits."""
+        cells = self.cells_of_marks()[mark]
+        return cells(length)
+
 
 def legs_of(tables, flow, way):
     """The Legs of a way, for any values."""
@@ -78,12 +83,13 @@ def ticks_for(pairs, cells):
 
 def delays_at(legs, length):
     """The greatest delays of a content of this length, of both marks."""
-    return [ticks_for(legs.forth, cells(length)) for cells in legs.cells_of_marks()]
+    return [ticks_for(legs.forth, legs.cells_at(mark, length)) for mark in (0, 1)]
 
 
 def trips_at(legs, length):
     """The greatest round trips of a content of this length, of both marks."""
-    return [ticks_for(legs.forth, cells(length)) + ticks_for(legs.back, cells(0)) for cells in legs.cells_of_marks()]
+    answers = [ticks_for(legs.back, legs.cells_at(mark, 0)) for mark in (0, 1)]
+    return [delay + answer for delay, answer in zip(delays_at(legs, length), answers)]
 
 
 def worse_mark(values):

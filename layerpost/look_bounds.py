@@ -30,9 +30,8 @@ def is_sound(legs, trips, paper):
         return False
     if not is_within(paper.mark, 0, 1) or trips[paper.mark] != trip:
         return False
-    cells = legs.cells_of_marks()[paper.mark]
-    return are_shares(paper.forth, shares(legs.forth, cells(most))) and (
-        are_shares(paper.back, shares(legs.back, cells(0))))
+    return are_shares(paper.forth, shares(legs.forth, legs.cells_at(paper.mark, most))) and (
+        are_shares(paper.back, shares(legs.back, legs.cells_at(paper.mark, 0))))
 
 
 def are_early(first, ticks):

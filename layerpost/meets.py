@@ -12,7 +12,8 @@ from layerpost.waits import worst_place
 def latest_rows(plan, rule, cells):
     """The rows behind which so many cells are known last: triples of the begin phase, the own slot, its phase."""
     delays = phase_delays(plan, rule)
-    most = slots_needed(plan, rule)(cells)
+    needed = slots_needed(plan, rule)
+    most = needed(cells)
     rows = []
     for begin in range(len(plan)):
         slot = 0
@@ -38,7 +39,8 @@ class Hardship:
         self.owned = lane.ring.own(flow)
         self.length = len(lane.ring)
         self.plan = lane.plan
-        self.place = worst_place(lane.ring, flow, slots_needed(lane.plan, lane.rule)(cells))
+        needed = slots_needed(lane.plan, lane.rule)
+        self.place = worst_place(lane.ring, flow, needed(cells))
         choices = []
         for begin, slot, phase in latest_rows(lane.plan, lane.rule, cells):
             worst = worst_losses(lane.plan, lane.rule, phase)

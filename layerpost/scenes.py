@@ -83,7 +83,9 @@ class Scene:
             return
         self.fallen = fall.name
         self.tell("fell", None, fall.name, None)
-        for number in self.in_order([number for number in self.parcels if self.is_gone(self.parcels[number])]):
+        lost = [number for number in self.parcels if self.is_gone(self.parcels[number])]
+        ordered = self.in_order(lost)
+        for number in ordered:
             letter = self.parcels[number].letter
             self.tell("gone", letter.flow, fall.name, letter.mark)
             self.leave(number)
@@ -108,10 +110,11 @@ class Scene:
         due = [number for number in self.dues if self.dues[number] == self.tick]
         if not due:
             return
+        names = {number: self.link_of(self.parcels[number]).name for number in due}
         ordered = self.in_order(due)
         for link in self.run.net.links:
-            for number in [number for number in ordered if number in self.parcels]:
-                if self.link_of(self.parcels[number]) == link:
+            for number in ordered:
+                if names[number] == link.name:
                     parcel = self.parcels[number]
                     self.leave(number)
                     self.reach(parcel)

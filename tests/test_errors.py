@@ -6,10 +6,12 @@ import layerpost.errors
 from layerpost import checks
 from layerpost.bounds import Alarm, Met, Sound
 from layerpost.errors import PostError
+from layerpost.compared import Better, Worse
 from layerpost.events import Event
 from layerpost.exchange import Ranks
 from layerpost.follow import Journey
 from layerpost.frames import Right, Wrong
+from layerpost.least_stacks import Least
 from layerpost.longest import Longest
 from layerpost.paces import Endless, Steady
 from layerpost.pairs import Broken, Once
@@ -71,11 +73,11 @@ class ErrorsTest(Case):
 
     def test_verdicts(self):
         for yes, no in ((Right, Wrong), (Closed, Never), (Apart, Cut), (Leads, Ring), (Leads, Stops), (Ranks, Ring),
-                        (Once, Broken), (Steady, Endless), (Sound, Alarm)):
+                        (Once, Broken), (Steady, Endless), (Sound, Alarm), (Better, Worse)):
             self.assertEqual([kind.__mro__[1] for kind in (yes, no)], [Verdict, Verdict])
             made = [kind(*range(len(inspect.signature(kind).parameters))) for kind in (yes, no)]
             self.assertEqual([bool(paper) for paper in made], [True, False])
-        self.assertFalse([kind for kind in (Longest, Worst, Journey, Met, Event) if issubclass(kind, Verdict)])
+        self.assertFalse([kind for kind in (Longest, Worst, Journey, Met, Event, Least) if issubclass(kind, Verdict)])
 
 
 class ChecksTest(Case):

@@ -73,6 +73,16 @@ INTERFACE = {
     "player.py": {"Player": """__init__ advance go send clock is_idle handed ticks_of waiting way_of hue_of places_of events offer
         give turn drop undo deeds trial tried attempt twin __eq__""".split()},
     "stacks.py": {"Stack": "__init__ delay_of but __eq__".split()},
+    "compared.py": {"Better": "__init__ __bool__ __eq__".split(), "Worse": "__init__ __bool__ __eq__".split(),
+                    **dict.fromkeys("better from_on order".split())},
+    "look_compared.py": {"shows_better": None},
+    "least_stacks.py": {"Wish": "__init__ keeps __eq__".split(), "Least": ["__init__", "__eq__"],
+                        **dict.fromkeys("spread least_share greatest_length frontier".split())},
+    "seen.py": {"Seen": "__init__ first_beyond __len__ __iter__ __eq__".split(), **dict.fromkeys("tightest least_travel".split())},
+    "texts.py": dict.fromkeys("net_text tables_text run_text stack_text".split()),
+    "reader.py": dict.fromkeys("read_net read_tables read_run read_stack".split()),
+    "desk.py": {"Desk": "__init__ say __call__ say_all net_now laid_tables run_now play_now __len__ trial tried".split()},
+    "desk_lines.py": {},
     "rounds.py": {"Round": """__init__ __len__ __iter__ __contains__ __getitem__ __call__ own flow_names __add__ __mul__
         __rmul__ __lshift__ with_slot __eq__ is_like __str__ read""".split()},
 }

@@ -105,13 +105,14 @@ class PlayTest(PlayCase):
         for shape, rings in ((SHAPES[0], ("x", "x -")), (SHAPES[4], ("x y", "y x x", "y x")), (SHAPES[2], ("x y", "x y z"))):
             net, run = dealt_play(chance, LINES[:3], (14, 60), shape, rings)
             ends = {house for flow in net.flows for house in (flow.begin, flow.end)}
-            for name in [*[link.name for link in net.links], *[house for house in net.houses if house not in ends]]:
-                for tick in range(0, 66):
+            names = [*[link.name for link in net.links], *[house for house in net.houses if house not in ends]]
+            for at, name in enumerate(names):
+                for tick in range(at % 2, 66, 2):
                     player, seen = self.compare(run.with_fall(Fall(tick, name)), ticks=110)
                     gone += len([event for event in player.events() if event.word == "gone"]) > 1
                     words |= seen
         self.assertIn("gone", words)
-        self.assertGreater(gone, 20)
+        self.assertGreater(gone, 10)
 
     def test_falls_by_chance(self):
         chance = dealer(4)

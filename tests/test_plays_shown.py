@@ -197,7 +197,7 @@ class BetterTest(Case):
 
     def test_lanes(self):
         chance = dealer(8)
-        for _ in range(12):
+        for _ in range(4):
             tables, _ = sound_case(chance)
             for link in tables.net.links:
                 for house, lane in ((link.one, link.there), (link.other, link.back)):
