@@ -123,7 +123,6 @@ def hear_name(cursor):
 
 def hear_no(cursor):
     """Nothing behind the first word"""
-    cursor.end_line()
     return []
 
 

@@ -4,7 +4,7 @@ from layerpost.errors import BadTable, Clashing
 from layerpost.hops import hop_growth
 from layerpost.longest import most_cells
 from layerpost.routes import is_way_of
-from layerpost.tables import check_tables, check_way, leads
+from layerpost.tables import leads
 
 
 class Hops:
@@ -62,10 +62,8 @@ class Legs:
 
 def legs_of(tables, flow, way):
     """The Legs of a way, for any values."""
-    check_tables(tables)
-    told = tables.net.flow_named(flow)
-    check_way(way)
     answer = leads(tables, flow, way)
+    told = tables.net.flow_named(flow)
     if not answer or not is_way_of(tables.net, told, answer.houses):
         raise BadTable(way)
     return Legs(tables.net, told, answer.houses)

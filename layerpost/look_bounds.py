@@ -13,7 +13,7 @@ MOST_FIRST_TRIP = 9000
 
 def is_share(value, told):
     """Whether any value is this triple of the name of a link and two integers."""
-    return isinstance(value, tuple) and value == told and is_integer(value[1]) and is_integer(value[2])
+    return value == told and is_integer(value[1]) and is_integer(value[2])
 
 
 def are_shares(value, told):
@@ -26,7 +26,7 @@ def are_shares(value, told):
 def is_sound(legs, trips, paper):
     """Whether a Sound of any values is right."""
     trip, most = max(trips), legs.flow.most
-    if trip > legs.flow.timeout or not is_integer(paper.trip) or paper.trip != trip:
+    if trip > legs.flow.timeout or paper.trip != trip:
         return False
     if not is_within(paper.mark, 0, 1) or trips[paper.mark] != trip:
         return False
@@ -46,7 +46,7 @@ def is_run_of(tables, value):
 
 def is_alarm(tables, legs, trips, paper):
     """Whether an Alarm of any values is right."""
-    if not is_integer(paper.trip) or paper.trip != max(trips):
+    if paper.trip != max(trips):
         return False
     if not is_run_of(tables, paper.run) or paper.run.fall is not None:
         return False

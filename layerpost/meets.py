@@ -45,10 +45,7 @@ class Hardship:
         for begin, slot, phase in latest_rows(lane.plan, lane.rule, cells):
             worst = worst_losses(lane.plan, lane.rule, phase)
             losses = worst.losses.rstrip(".")
-            if losses == "":
-                choices.append((0, 0, begin, ""))
-            else:
-                choices.append((slot + len(losses), slot - len(worst.before), begin, worst.before + losses))
+            choices.append((slot + len(losses), slot - len(worst.before), begin, worst.before + losses))
         # The fewer own slots are told, the sooner is there room for them.
         _, self.ahead, self.phase, self.losses = min(choices)
 

@@ -25,12 +25,10 @@ class Parcel:
 
     def houses_behind(self):
         """The houses when it has gone on."""
-        if self.is_answer:
-            return self.houses[:-1]
-        if self.towards in self.houses:
-            # What goes round once goes round for ever, so no answer asks for the way round.
-            return self.houses[:self.houses.index(self.towards) + 1]
-        return (*self.houses, self.towards)
+        if self.towards not in self.houses:
+            return (*self.houses, self.towards)
+        # An answer goes back so; a letter that goes round once does for ever, so no answer asks for its way round.
+        return self.houses[:self.houses.index(self.towards) + 1]
 
     def __eq__(self, other):
         return isinstance(other, Parcel) and self.letter == other.letter and self.way == other.way and (

@@ -64,7 +64,7 @@ class Scene:
 
     def is_lost(self, link):
         """Whether a link has fallen, or a house at one of its ends."""
-        return self.fallen is not None and self.fallen in (link.name, link.one, link.other)
+        return self.fallen in (link.name, link.one, link.other)
 
     def link_of(self, parcel):
         """The link by which a parcel goes on."""

@@ -2,7 +2,6 @@
 
 from layerpost.checks import is_name, is_within
 from layerpost.errors import BadLosses, BadName, BadNet, BadNumber, NoPhase
-from layerpost.machines import is_losses
 from layerpost.nets import Lane
 from layerpost.unknown import is_in_reach, rows_behind
 
@@ -24,7 +23,7 @@ class Stream:
             raise BadName(flow)
         if not is_within(phase, 0, len(lane.plan) - 1):
             raise NoPhase(phase)
-        if not is_losses(losses) or not lane.rule.lets(losses):
+        if not lane.rule.lets(losses):
             raise BadLosses(losses)
         self.lane = lane
         self.flow = flow
@@ -83,9 +82,8 @@ class Stream:
         return not self.queue and all([thing is None for _, thing in self.rows])
 
     def is_quiet(self):
-        """Whether only the phase is to be kept: what comes later is as on a line that begins with it."""
-        return self.is_idle and self.losses == "" and (
-            not any([is_in_reach(self.lane.plan, self.phase, age) for age, _ in self.rows]))
+        """Whether only the phase is to be kept, as each cell that comes is known with its own slot."""
+        return self.is_idle and self.losses == ""
 
     def shape(self):
         """What waits, what is unknown and what is known of it, whatever numbers things have."""

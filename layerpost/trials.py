@@ -32,18 +32,16 @@ class Trial:
 
 
 class Attempt:
-    """A block behind which the thing is as it was if an error leaves it."""
+    """A block, entered once, behind which the thing is as it was if an error leaves it."""
 
     def __init__(self, thing):
         self.thing = thing
-        self.held = None
+        self.held = Held(thing, None)
 
     def __enter__(self):
-        self.held = Held(self.thing, self.held)
         return self.thing
 
     def __exit__(self, kind, value, trace):
         if kind is not None:
             self.thing.now = self.held.now
             self.thing.past = self.held.past
-        self.held = self.held.under

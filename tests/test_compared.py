@@ -219,4 +219,5 @@ class LookTest(Case):
             self.assertNotEqual(Better(1, value), Better(("no",), value))
             self.assertNotEqual(Worse(value), Worse(("no",)))
         self.assertNotEqual(Better(1, 2), Worse(1))
+        self.assertNotEqual(Worse(1), Better(1, 2))
         self.assertEqual([bool(Better(0, 0)), bool(Worse(1))], [True, False])

@@ -328,8 +328,8 @@ class CommandTest(DeskCase):
         desk.say_all(*LINES)
         for line, word in (("net 0 a b / 01 :", 1), ("net 33 a b / 01 :", 1), ("link q a b 1001 / f / f", 4), ("link q a b 0 / f" + " f" * 24 + " / f", 30), ("link q a b 0 / f / f" + " f" * 24, 32),
                            ("flow q a b 200 1", 4), ("flow q a b 0 0", 5), ("flow q a b 0 1000000001", 5), ("letter f 20001 -", 2), ("letter f 0 " + "1" * 201, 3), ("fall x at 20001", 3),
-                           ("place a b " + "1" + "0" * 29 + "1" * 2, 3), ("go 1" + "0" * 29 + "1" * 2, 1), ("cells 1" + "0" * 29 + "1" * 2, 1), ("delay f first 1" + "0" * 29 + "11", 3),
-                           ("trip f first 1" + "0" * 29 + "11", 3), ("worst f 1" + "0" * 29 + "11", 2), ("line a b f 1" + "0" * 29 + "11 -", 4), ("send f " + "1" * 201, 2), ("frame " + "1" * 201, 1),
+                           ("place a b " + "1" + "0" * 29 + "1", 3), ("go 1" + "0" * 29 + "1", 1), ("cells 1" + "0" * 29 + "1", 1), ("delay f first 1" + "0" * 29 + "1", 3),
+                           ("trip f first 1" + "0" * 29 + "1", 3), ("worst f 1" + "0" * 29 + "1", 2), ("line a b f 1" + "0" * 29 + "1 -", 4), ("send f " + "1" * 201, 2), ("frame " + "1" * 201, 1),
                            ("lay f third a b", 2), ("rule a b losses 0 2 / 0 -", 5), ("plan a b row 5", 4), ("round a b" + " f" * 25, 27), ("net 4 a b / 0", 5), ("net 4 a b / 01 : 0 0 , 0 1", 10)):
             self.refused(("BadCommand", word), desk, line)
         many = 10 ** 30
@@ -366,7 +366,8 @@ class CommandTest(DeskCase):
         self.refused(("NoLink", "c"), desk, "line c a f 9 -")
         self.refused(("NoLine", ("x", "a", "f")), desk, "line a b f 9 -")
         self.refused(("Nothing",), desk, "send q 01")
-        self.refused(("Nothing",), desk, "handed q")
+        for line in ("send f -", "go 0", "handed q", "delays f", "way f", "clock"):
+            self.refused(("Nothing",), desk, line)
         self.refused(("BadCommand", 1), desk, "handed Q")
 
 

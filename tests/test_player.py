@@ -4,7 +4,9 @@ from layerpost.errors import BadLetter, PostError
 from layerpost.events import Event
 from layerpost.exchange import Bench
 from layerpost.losses import Burst, MachineRule, Total
+from layerpost.marks import Receiver, Sender
 from layerpost.nets import Flow, Lane, Link, Net
+from layerpost.parcels import Letter, Log, Parcel, Post
 from layerpost.plans import Phase, Plan
 from layerpost.player import Player
 from layerpost.rounds import Round
@@ -503,6 +505,41 @@ class EqualTest(PlayCase):
         third.advance()
         self.assertEqual(one, third)
 
+    def test_clocks_and_events_alone(self):
+        net = small_net()
+        one, other = Player(Run(net)), Player(Run(net))
+        one.go(3)
+        other.go(5)
+        self.assertNotEqual(one, other)
+        other.undo()
+        other.send("a", "1")
+        other.go(10)
+        one.undo()
+        one.go(1)
+        one.send("a", "1")
+        one.go(9)
+        # The same letter went as long, a tick later.
+        self.assertEqual((one.clock, told_state(one, net)), (other.clock, told_state(other, net)))
+        self.assertNotEqual(one, other)
+
+    def test_under_way_alone(self):
+        # The answer to the first copy of the first letter is so late that it ends the sending of the fifth one, which is under way.
+        quick = Lane(Round("x"))
+        links = [Link("az", "a", "z", quick, Lane(Round("x"), 16)), Link("ab", "a", "b", quick, quick), Link("bz", "b", "z", quick, quick)]
+        net = Net(list("abz"), links, [Flow("x", "a", "z", 1, 1)], SHORT, 8)
+        tables = Tables(net).laid("x", "first", ("a", "z")).laid("x", "spare", tuple("abz"))
+        players = [Player(Run(net), tables) for _ in range(3)]
+        for player, last in zip(players, "010"):
+            for letter in ("", "", "", "", last, "0"):
+                player.send("x", letter)
+            player.go(19)
+            self.assertEqual([str(event) for event in player.events()][-3:], ["18 ended x a 0", "18 came x b 0", "18 taken x a 1"])
+            self.assertEqual((player.handed("x"), player.waiting("x"), player.places_of("x")), (("",) * 4, (), ((0, 0, "b"), (0, 1, "a"))))
+        self.assertEqual([players[0] == other for other in players], [True, False, True])
+        for player in players:
+            player.go(1)
+        self.assertEqual([player.handed("x")[-1] for player in players], ["0", "1", "0"])
+
     def test_letters_under_way_and_handed_out(self):
         net = small_net()
         for ticks, is_equal in ((0, False), (1, False), (4, False), (60, False)):
@@ -512,6 +549,22 @@ class EqualTest(PlayCase):
             one.go(ticks)
             other.go(ticks)
             self.assertEqual(one == other, is_equal)
+
+    def test_parts_of_plays(self):
+        letter = Letter("x", 0, "01", 3, 1)
+        letters = [letter, Letter("y", 0, "01", 3, 1), Letter("x", 1, "01", 3, 1), Letter("x", 0, "1", 3, 1), Letter("x", 0, "01", 4, 1),
+                   Letter("x", 0, "01", 3, 0)]
+        parcels = [Parcel(letter, "first", ("a",), False, "b"), Parcel(letters[1], "first", ("a",), False, "b"), Parcel(letter, "spare", ("a",), False, "b"),
+                   Parcel(letter, "first", ("c",), False, "b"), Parcel(letter, "first", ("a",), True, "b"), Parcel(letter, "first", ("a",), False, None)]
+        posts = [Post(Sender(), letter, (), Receiver(), ()), Post(Sender(mark=1), letter, (), Receiver(), ()), Post(Sender(), None, (), Receiver(), ()),
+                 Post(Sender(), letter, ((0, ""),), Receiver(), ()), Post(Sender(), letter, (), Receiver(wanted=1), ()), Post(Sender(), letter, (), Receiver(), (("", 1),))]
+        logs = [Log([1, 2], 2), Log([1, 2], 1), Log([1, 3], 2), Log([], 0)]
+        for row in (letters, parcels, posts, logs):
+            for at, one in enumerate(row):
+                for place, other in enumerate(row):
+                    self.assertEqual(one == other, at == place)
+                self.assertFalse(one == "no")
+        self.assertEqual(Log([1, 2, 3], 2), Log([1, 2], 2))
 
     def test_events_are_a_generator(self):
         player = Player(Run(small_net(), contents={"a": [(0, "01")]}))

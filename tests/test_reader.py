@@ -336,6 +336,11 @@ class RunTest(Case):
         for more in ("fall x at 3", "letter g 7 -", "run", "place y c 1"):
             self.refused(("BadText", 11, 0), read_run, net, RUN + "\n" + more)
 
+    def test_slots_of_names_that_are_no_flows(self):
+        net = net_now() | Link("x", "a", "b", Lane(Round("h", "f")), Lane(Round("f")))
+        self.refused(("BadText", 1, 3), read_run, net, "run\nline x a h 0 -")
+        self.refused(("BadText", 1, 5), read_run, net, "run\nline x a f 0 -")
+
     def test_edges_that_can_stand(self):
         net = net_now()
         for old, new in (("line x a f 1 x..x", "line x a f 1 " + "." * 399 + "x"), ("letter g 7 -", "letter g 7 " + "1" * 199), ("letter f 20000 1", "letter f 0 1"),

@@ -132,7 +132,8 @@ class StackTest(Case):
     def test_numbers(self):
         told = stack()
         for value in [*any_values(), 10 ** 30 + 1]:
-            self.refused(("BadNumber", value), told.delay_of, value, value)
+            self.refused(("BadNumber", value), told.delay_of, value)
+            self.refused(("BadNumber", value), told.delay_of, value, "lanes")
             self.refused(("BadNumber", value), told.delay_of, 0, value)
         self.refused(("BadNumber", 0), told.delay_of, 0, 0)
         self.refused(("BadNumber", 1001), told.delay_of, 0, 1001)

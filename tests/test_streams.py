@@ -183,6 +183,18 @@ class EqualTest(Case):
         self.assertNotEqual(self.behind(never, 3), Stream(lane, "x", losses="x"))
         self.assertEqual(self.behind(Stream(lane, "x", losses="x.."), 9), Stream(lane, "x"))
 
+    def test_rows_of_nothing_that_a_known_sum_holds(self):
+        # Only each third slot tells a sum: of the two lost rows ahead of it, neither of which is ever known.
+        lane = lane_of(Plan(Phase(), Phase(), Phase((1, 2))), MachineRule((0, 0)))
+        held, free = Stream(lane, "x", losses="xx"), Stream(lane, "x", losses="xxx")
+        for many in (3, 6, 12):
+            self.assertNotEqual(self.behind(held, many), Stream(lane, "x"))
+            self.assertEqual(self.behind(free, many), Stream(lane, "x"))
+            self.assertEqual(self.behind(held, many), self.behind(Stream(lane, "x", losses="...xx"), many + 3))
+            self.assertNotEqual(self.behind(held, many), self.behind(Stream(lane, "x", losses="xx.xx"), many + 3))
+            self.assertTrue(self.behind(held, many).is_idle)
+        self.assertNotEqual(self.behind(free, 2), self.behind(Stream(lane, "x", losses="...x"), 5))
+
     def test_sums_that_are_known(self):
         # The sum of two lost rows of nothing is known; then the one row tells the other one.
         lane = lane_of(Plan(Phase((1, 2), (4,))), MachineRule((0, 0)))

@@ -3,10 +3,12 @@
 from layerpost.bounds import Alarm, Met, Sound, greatest_delay, lane_shares, round_trip, sound, way_growth, worst_run
 from layerpost.follow import followed
 from layerpost.frames import FrameRule
+from layerpost.legs import legs_of, trips_at
 from layerpost.look_bounds import shows_met, shows_sound
 from layerpost.losses import Burst, LossRule, Total
 from layerpost.nets import Flow, Lane, Link, Net
-from layerpost.plans import Plan
+from layerpost.plans import Phase, Plan
+from layerpost.repair import phase_delays
 from layerpost.rounds import Round
 from layerpost.runs import Fall, Run
 from layerpost.tables import Tables
@@ -59,7 +61,7 @@ class SoundTest(Case):
                 self.assertEqual(sound(told, "x"), wanted)
                 self.assertTrue(shows_sound(told, "x", wanted))
                 self.assertEqual(round_trip(told, "x")(6), trip)
-            for timeout in (trip - 1, min(trips) - 1, trip // 2, 1):
+            for timeout in (trip - 1, min(trips) - 1, min(trips) if min(trips) < trip else 1, trip // 2, 1):
                 self.alarmed(with_flow(tables, timeout=max(1, timeout)), trip)
         self.assertEqual(marks, {-1, 0, 1})
 
@@ -233,6 +235,50 @@ class WorstRunTest(Case):
         self.assertEqual(met.there - met.taken, 10 ** 9 + 2 * 12)
         self.assertTrue(shows_met(tables, "x", 4, "spare", met))
 
+    def test_letters_ahead_that_take_too_long(self):
+        # The answer to the letter ahead of one with the mark 1 takes more than 20,000 ticks, the letter itself not.
+        mutes = [Phase(mute=True) for _ in range(3)]
+        for many, is_told in ((11, False), (6, True)):
+            slow = Lane(Round(*[None] * 23, "x"), 1000, Plan(Phase(), *mutes))
+            names = "abcdefghijk"[:many] + "z"
+            links = [Link(one + other, one, other, Lane(Round("x")), slow) for one, other in zip(names, names[1:])]
+            links.append(Link("az", "a", "z", Lane(Round("x")), Lane(Round("x"))))
+            net = Net(list(names), links, [Flow("x", "a", "z", 1, 10 ** 9)], FrameRule("11111111", ("1", "0")), 1)
+            tables = Tables(net).laid("x", "first", tuple(names)).laid("x", "spare", ("a", "z"))
+            trip = max(trips_of(tables, 0))
+            self.assertGreater(trip, 9000)
+            for way in ("first", "spare"):
+                if is_told:
+                    met = worst_run(tables, "x", 1, way)
+                    self.assertGreater(met.taken, 8000)
+                    self.assertTrue(shows_met(tables, "x", 1, way, met))
+                else:
+                    self.assertGreater(trip, 20000)
+                    self.refused(("TooMany", "ticks", 20000), worst_run, tables, "x", 1, way)
+
+    def test_lines_of_many_kinds(self):
+        chance, found = dealer(13), 0
+        ages = [(1,), (2,), (3,), (4,), (1, 2), (2, 3), (1, 3), (1, 4), (3, 4), (1, 2, 3)]
+        while found < 120:
+            try:
+                plan = Plan(*[Phase(*chance.sample(ages, chance.randint(0, 3)), mute=chance.random() < .2) for _ in range(chance.randint(1, 4))])
+            except ValueError:
+                continue
+            rule = chance.choice((Burst(1, 2), Burst(2, 3), Burst(1, 4), Total(2), Total(3)))
+            if phase_delays(plan, rule) is None:
+                continue
+            found += 1
+            _, tables = dealt_ways(chance, WAYS[found % 2], 10 ** 6, 3, chance.choice(FRAMES), chance.choice((1, 4)), ((plan, rule),),
+                                   ("x", "x - -", "- x - x x", "- - - x"))
+            tables = with_flow(tables, timeout=max(trips_at(legs_of(tables, "x", "first"), 3)))
+            for way in ("first", "spare"):
+                met = worst_run(tables, "x", found % 4, way)
+                journey = followed(met.run, tables, "x")[-1]
+                self.assertEqual((journey.taken, journey.there), (met.taken, met.there))
+                self.assertTrue(shows_met(tables, "x", found % 4, way, met))
+            hasty = with_flow(tables, timeout=tables.net.flow_named("x").timeout - 1)
+            self.assertTrue(shows_sound(hasty, "x", sound(hasty, "x")))
+
     def refusing(self, travel, timeout=10 ** 6, links=11):
         """Tables of a way of lanes with this travel, and of a spare one without."""
         slow, plain = Lane(Round("x"), travel), Lane(Round("x"))
@@ -316,6 +362,8 @@ class LookTest(Case):
             for mark in (0, 1):
                 houses = houses_on(tables, "first")
                 paper = Sound(trips[mark], mark, forth_shares(tables.net, "x", houses, mark, 6), back_shares(tables.net, "x", houses, mark))
+                self.assertEqual(shows_sound(tables, "x", paper), trips[mark] == max(trips))
+                paper.trip = max(trips)
                 self.assertEqual(shows_sound(tables, "x", paper), trips[mark] == max(trips))
 
     def test_alarms(self):
@@ -408,6 +456,51 @@ class LookTest(Case):
             run = Run(net, contents={"x": [(0, ""), (tick, "1")]})
             self.assertEqual(followed(run, tables, "x")[1].taken, taken)
             self.assertIs(shows_met(tables, "x", 1, "first", Met(run, "1", taken, taken + 2)), is_right)
+
+    def short(self, travels=(0, 0), timeout=10 ** 5):
+        """Tables of a first way of lanes with these travels, in turns there and back; each letter is one cell."""
+        names = "abcdefz"[:len(travels) // 2] + "z"
+        links = [Link(one + other, one, other, Lane(Round("x"), there), Lane(Round("x"), back))
+                 for one, other, there, back in zip(names, names[1:], travels[::2], travels[1::2])]
+        links += [Link("aq", "a", "q", Lane(Round("x")), Lane(Round("x"))), Link("qz", "q", "z", Lane(Round("x")), Lane(Round("x")))]
+        net = Net([*names, "q"], links, [Flow("x", "a", "z", 4, timeout)], SHORT, 32)
+        return Tables(net).laid("x", "first", tuple(names)).laid("x", "spare", tuple("aqz"))
+
+    def test_kinds_of_ticks(self):
+        tables = self.short()
+        run = Run(tables.net, contents={"x": [(0, "")]})
+        self.assertTrue(shows_met(tables, "x", 0, "first", Met(run, "", 0, 1)))
+        for taken, there in ((False, 1), (0, True), (False, True)):
+            self.assertFalse(shows_met(tables, "x", 0, "first", Met(run, "", taken, there)))
+        right = sound(tables, "x")
+        self.assertEqual(right, Sound(2, 0, (("az", 1, 1),), (("az", 1, 1),)))
+        self.assertTrue(shows_sound(tables, "x", right))
+        for share in (("az", True, 1), ("az", 1, True)):
+            self.assertFalse(shows_sound(tables, "x", Sound(2, 0, (share,), right.back)))
+            self.assertFalse(shows_sound(tables, "x", Sound(2, 0, right.forth, (share,))))
+
+    def test_runs_that_are_not_the_worst(self):
+        lane = Lane(Round("x", None, None))
+        links = [Link(pair, *pair, lane, lane) for pair in ("az", "ab", "bz")]
+        net = Net(list("abz"), links, [Flow("x", "a", "z", 4, 400)], SHORT, 32)
+        tables = Tables(net).laid("x", "first", ("a", "z")).laid("x", "spare", tuple("abz"))
+        for tick, there in ((5, 7), (6, 7), (4, 7)):
+            run = Run(net, contents={"x": [(tick, "")]})
+            self.assertEqual(followed(run, tables, "x")[0].there, there)
+            for taken in range(9):
+                self.assertEqual(shows_met(tables, "x", 0, "first", Met(run, "", taken, there)), tick == taken == 4)
+
+    def test_how_late_letters_can_be_taken_up(self):
+        for travels, trip in (([899] * 10, 9000), ([899] * 9 + [900], 9001)):
+            tables = self.short(travels)
+            self.assertEqual(sound(tables, "x").trip, trip)
+            for tick, is_right in ((9999, True), (10000, trip > 9000), (20000, trip > 9000)):
+                run = Run(tables.net, contents={"x": [(tick, "01")]})
+                self.assertEqual(shows_met(tables, "x", 2, "first", Met(run, "01", tick, tick + 4500)), is_right)
+            hasty = self.short(travels, trip - 1)
+            for tick, is_right in ((9999, True), (10000, trip > 9000), (20000, trip > 9000)):
+                run = Run(hasty.net, contents={"x": [(tick, "01")]})
+                self.assertEqual(shows_sound(hasty, "x", Alarm(trip, run)), is_right)
 
     def test_mets_by_the_spare_way(self):
         tables = self.tables()
