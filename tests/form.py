@@ -127,6 +127,11 @@ class Look:
             for node in tree.body:
                 if isinstance(node, ast.FunctionDef):
                     self.functions.setdefault(node.name, []).append(node)
+        every = [node for tree in self.trees.values() for node in functions_of(tree)]
+        yielding = [node for node in every if [part for part in ast.walk(node) if isinstance(part, (ast.Yield, ast.YieldFrom))]]
+        # All functions and methods with `yield`, by name; and the others of these names.
+        self.generators = {node.name for node in yielding}
+        self.others = {node.name for node in every if node.name in self.generators and node not in yielding}
 
     def tell(self, name, node, rule, what):
         line = getattr(node, "lineno", 0)
@@ -400,20 +405,13 @@ class Look:
             if changed in over:
                 self.tell(name, part, "L23", f"{changed} is changed in its loop")
 
-    def generators(self):
-        """All functions and methods with `yield`, by name."""
-        return {node.name for tree in self.trees.values() for node in functions_of(tree)
-                if [part for part in ast.walk(node) if isinstance(part, (ast.Yield, ast.YieldFrom))]}
-
     def look_generators(self, name, tree):
-        told = self.generators()
+        told = self.generators
         for node in functions_of(tree):
             if node.name not in told:
                 continue
             # The interface has two generators of one name: then none of that name is anything else.
-            others = [other for tree in self.trees.values() for other in functions_of(tree) if other.name == node.name and not [
-                part for part in ast.walk(other) if isinstance(part, (ast.Yield, ast.YieldFrom))]]
-            if node.decorator_list or node.name.startswith("__") or node.name in METHODS or others:
+            if node.decorator_list or node.name.startswith("__") or node.name in METHODS or node.name in self.others:
                 self.tell(name, node, "L23", f"a generator {node.name}")
             for part in ast.walk(node):
                 is_yield = isinstance(part, (ast.Yield, ast.YieldFrom))

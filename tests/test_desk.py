@@ -395,7 +395,7 @@ class QuestionsTest(DeskCase):
 
     def test_each_question_by_the_functions_of_the_package(self):
         chance, seen = dealer(4), set()
-        for _ in range(25):
+        for _ in range(12):
             desk = Desk()
             desk.say_all(*self.net_lines(chance))
             for _ in range(3):
