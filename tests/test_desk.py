@@ -381,7 +381,7 @@ class QuestionsTest(DeskCase):
         for name, pair in (("x", "a b"), ("y", "a c"), ("z", "c b")):
             lines.append(f"link {name} {pair} {chance.choice((0, 3))} / {ring()} / {ring()}")
         pair = chance.choice(("a b", "b a", "a c"))
-        return [*lines, f"plan {pair} {plan}", f"rule {pair} {rule}", "flow f a b 5 999", f"flow g {chance.choice(('c b', 'b c'))} 3 {chance.choice((3, 9, 400))}"]
+        return [*lines, f"plan {pair} {plan}", f"rule {pair} {rule}", f"flow f a b 5 {chance.choice((4, 999))}", f"flow g {chance.choice(('c b', 'b c'))} 3 {chance.choice((9, 40, 400))}"]
 
     def asked(self, desk, line, work):
         """A question is answered by what the test reckons, or refused with its error; nothing is changed."""
