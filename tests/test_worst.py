@@ -6,14 +6,16 @@ from layerpost.frames import FrameRule
 from layerpost.legs import legs_of, trips_at
 from layerpost.look_bounds import shows_met, shows_sound
 from layerpost.losses import Burst, LossRule, Total
+from layerpost.meets import Hardship, latest_rows
 from layerpost.nets import Flow, Lane, Link, Net
 from layerpost.plans import Phase, Plan
 from layerpost.repair import phase_delays
 from layerpost.rounds import Round
 from layerpost.runs import Fall, Run
 from layerpost.tables import Tables
+from layerpost.waits import wait_from
 from tests.helpers import Case, any_values, dealer
-from tests.sums import back_shares, cells_at, delay_at, forth_shares, trip_at
+from tests.sums import back_shares, cells_at, delay_at, forth_shares, slots_at, trip_at, wait_at
 from tests.test_bounds import FRAMES, WAYS, dealt_ways, houses_on, with_flow
 from tests.test_frames import SHORT
 from tests.ticks import SlowFlow
@@ -314,6 +316,45 @@ class WorstRunTest(Case):
         self.refused(("BadTable", "spare"), worst_run, Tables(tables.net).laid("x", "first", ("a", "z")), "x", -1, "spare")
 
 
+class HardshipTest(Case):
+    """The parts of which worst runs are made."""
+
+    LINES = (("row 1+4 / row 2+3", "losses 0 1 / 2 - / 0 -"), ("row 2+3 3+4 / row 1+4 3", "losses 0 1 / 0 -"), ("row 1+2+3 2+3 3", "losses 0 1 / 2 - / 1 0"),
+             ("row / row / mute 1+2", "losses 0 1 / 2 - / 0 -"), ("row 1", "losses 0 1 / 0 -"), ("row", "losses 0 -"), ("row 1 / mute 1 / row", "losses 0 1 / 2 - / 3 - / 0 -"))
+
+    def test_rows_that_are_known_last(self):
+        for text, losses in self.LINES:
+            plan, rule = Plan.read(text), LossRule.read(losses)
+            delays = phase_delays(plan, rule)
+            for cells in (1, 2, 3, 4, 5, 9):
+                rows = []
+                for begin in range(len(plan)):
+                    slots = [slot for slot in range(5 * cells + 5) if not plan[begin + slot].mute][:cells]
+                    rows += [(begin, slot, (begin + slot) % len(plan)) for slot in slots]
+                most = max([slot + 1 + delays[phase] for _, slot, phase in rows])
+                self.assertEqual(most, slots_at(plan, rule, cells))
+                self.assertEqual(latest_rows(plan, rule, cells), [row for row in rows if row[1] + 1 + delays[row[2]] == most])
+
+    def test_the_least_tick_has_slots_enough_ahead(self):
+        needs = set()
+        for text, losses in self.LINES:
+            for ring in ("x", "- x", "- x x - x", "x - - -", "- - x - x x", "x x x -"):
+                lane = Lane(Round.read(ring), 0, Plan.read(text), LossRule.read(losses))
+                for cells in (1, 2, 3):
+                    hardship = Hardship(lane, "x", cells)
+                    place, slots, tick = hardship.place, lane.ring.slots, 0
+                    while [slots[(place - back) % len(slots)] for back in range(1, tick + 1)].count("x") < -hardship.ahead:
+                        tick += 1
+                    self.assertEqual(hardship.least_tick(), tick)
+                    self.assertEqual([wait_from(lane.ring, "x", place, many) for many in [slots_at(lane.plan, lane.rule, cells)]],
+                                     [wait_at(lane.ring, "x", slots_at(lane.plan, lane.rule, cells))])
+                    needs.add(-hardship.ahead)
+                    phase, told = hardship.line_at(tick)
+                    self.assertTrue(lane.rule.lets(told))
+                    self.assertIn(phase, range(len(lane.plan)))
+        self.assertGreater(max(needs), 0)
+
+
 class LookTest(Case):
 
     def tables(self, timeout=40):
@@ -457,13 +498,13 @@ class LookTest(Case):
             self.assertEqual(followed(run, tables, "x")[1].taken, taken)
             self.assertIs(shows_met(tables, "x", 1, "first", Met(run, "1", taken, taken + 2)), is_right)
 
-    def short(self, travels=(0, 0), timeout=10 ** 5):
-        """Tables of a first way of lanes with these travels, in turns there and back; each letter is one cell."""
-        names = "abcdefz"[:len(travels) // 2] + "z"
+    def short(self, travels=(0, 0), timeout=10 ** 5, size=32):
+        """Tables of a first way of lanes with these travels, in turns there and back; of the size 32 each letter is one cell."""
+        names = "abcdefghijk"[:len(travels) // 2] + "z"
         links = [Link(one + other, one, other, Lane(Round("x"), there), Lane(Round("x"), back))
                  for one, other, there, back in zip(names, names[1:], travels[::2], travels[1::2])]
         links += [Link("aq", "a", "q", Lane(Round("x")), Lane(Round("x"))), Link("qz", "q", "z", Lane(Round("x")), Lane(Round("x")))]
-        net = Net([*names, "q"], links, [Flow("x", "a", "z", 4, timeout)], SHORT, 32)
+        net = Net([*names, "q"], links, [Flow("x", "a", "z", 4, timeout)], SHORT, size)
         return Tables(net).laid("x", "first", tuple(names)).laid("x", "spare", tuple("aqz"))
 
     def test_kinds_of_ticks(self):
@@ -501,6 +542,23 @@ class LookTest(Case):
             for tick, is_right in ((9999, True), (10000, trip > 9000), (20000, trip > 9000)):
                 run = Run(hasty.net, contents={"x": [(tick, "01")]})
                 self.assertEqual(shows_sound(hasty, "x", Alarm(trip, run)), is_right)
+
+    def test_only_the_empty_letter_counts_for_that(self):
+        # Of the size 4 the empty letter is one cell, and one bit makes two.
+        tables = self.short([899] * 10, size=4)
+        self.assertEqual([round_trip(tables, "x")(length) for length in (0, 1)], [9000, 9005])
+        for tick in (9999, 10000):
+            run = Run(tables.net, contents={"x": [(tick, "")]})
+            self.assertEqual(shows_met(tables, "x", 0, "first", Met(run, "", tick, tick + 4500)), tick == 9999)
+
+    def test_just_10000_ticks(self):
+        for travel, many in ((990, 10000), (991, 10001)):
+            tables = self.short([1000, 0] * 9 + [travel, 0])
+            self.assertEqual(greatest_delay(tables, "x", 3), many)
+            if many == 10000:
+                self.assertEqual(worst_run(tables, "x", 3).there, 10000)
+            else:
+                self.refused(("TooMany", "ticks", 20000), worst_run, tables, "x", 3)
 
     def test_mets_by_the_spare_way(self):
         tables = self.tables()
