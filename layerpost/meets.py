@@ -108,15 +108,37 @@ class Meeting:
             losses[(link, house, self.flow)] = told
         return Run(self.main.net, places, phases, losses)
 
-    def first_tick(self, mark):
-        """A tick at which the letter can be taken up: for the mark 1 later than the empty one ahead has ended."""
-        taken = max([mark, *[hardship.least_tick() - offset for offset, _, _, hardship in self.rows]])
-        while mark == 1:
-            ended = copy_ticks(self.run_at(taken), self.flow, self.main.houses, 0, "0", "")[1]
-            if ended < taken:
-                break
+    def ended_ahead(self, taken):
+        """The tick at which the empty letter ahead, of the mark 0, has ended, if the letter is taken up at a tick."""
+        return copy_ticks(self.run_at(taken), self.flow, self.main.houses, 0, "0", "")[1]
+
+    def tick_by_leaps(self, least):
+        """A tick later than the letter ahead has ended, found in few steps."""
+        taken = least
+        ended = self.ended_ahead(taken)
+        while ended >= taken:
             # A later taking up begins all lanes elsewhere, so the letter ahead is looked at again.
             taken = ended + 1
+            ended = self.ended_ahead(taken)
+        return taken
+
+    def tick_by_steps(self, least):
+        """The first tick later than the letter ahead has ended."""
+        taken = least
+        while self.ended_ahead(taken) >= taken:
+            taken += 1
+        return taken
+
+    def first_tick(self, mark):
+        """A tick at which the letter can be taken up: for the mark 1 later than the empty one ahead has ended."""
+        least = max([mark, *[hardship.least_tick() - offset for offset, _, _, hardship in self.rows]])
+        if mark == 0:
+            return least
+        try:
+            taken = self.tick_by_leaps(least)
+        except TooMany:
+            # An earlier tick, which leaps can miss, can leave room enough for the losses.
+            taken = self.tick_by_steps(least)
         if taken > MOST_TICK:
             raise TooMany("ticks", MOST_TICK)
         return taken
