@@ -90,7 +90,7 @@ class PlayTest(PlayCase):
 
     def test_runs_by_chance(self):
         chance, words = dealer(1), set()
-        for _ in range(90):
+        for _ in range(60):
             net, run = dealt_play(chance)
             words |= self.compare(run)[1]
         self.assertLessEqual({"came", "back", "handed", "known", "ended", "stale", "changed", "taken"}, words)
@@ -118,7 +118,7 @@ class PlayTest(PlayCase):
 
     def test_falls_by_chance(self):
         chance = dealer(4)
-        for _ in range(80):
+        for _ in range(50):
             net, run = dealt_play(chance, timeouts=(7, 12, 25))
             ends = {house for flow in net.flows for house in (flow.begin, flow.end)}
             names = [*[link.name for link in net.links], *[house for house in net.houses if house not in ends]]
@@ -127,7 +127,7 @@ class PlayTest(PlayCase):
     def test_late_copies(self):
         # Time-outs that are too short: copies and answers of both ways come in, in all orders.
         chance, words = dealer(5), set()
-        for _ in range(80):
+        for _ in range(50):
             net, run = dealt_play(chance, timeouts=(1, 2, 4, 6, 8))
             words |= self.compare(run)[1]
         self.assertLessEqual({"known", "stale"}, words)
@@ -142,7 +142,7 @@ class PlayTest(PlayCase):
 
     def test_tables_that_do_not_lead(self):
         chance, waits = dealer(7), 0
-        for _ in range(60):
+        for _ in range(40):
             net, run = dealt_play(chance, timeouts=(10, 30))
             rows = {(house, flow.name, way): chance.choice(net.near(house)) for house in net.houses for flow in net.flows
                     for way in ("first", "spare") if chance.random() < .75}
@@ -155,7 +155,7 @@ class PlayTest(PlayCase):
 
     def test_lanes_without_own_slots(self):
         chance = dealer(8)
-        for _ in range(40):
+        for _ in range(22):
             net, run = dealt_play(chance)
             link = chance.choice(net.links)
             for lanes in ((Lane(Round("z")), link.back), (link.there, Lane(Round("z", None)))):
